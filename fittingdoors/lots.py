@@ -1,0 +1,33 @@
+"""Lots: ascending tuples of partings with as many doors."""
+
+from fittingdoors.errors import BadLot, BadNumber
+from fittingdoors.kinds import is_integer_within
+from fittingdoors.partings import is_parting
+
+MOST_LOT_DOORS = 6
+
+
+def need_lot_doors(number):
+    """Look at the number of doors of a lot."""
+    if not is_integer_within(number, 1, MOST_LOT_DOORS):
+        raise BadNumber(number)
+
+
+def look_at_lot(lot, number):
+    """BadLot unless this is a lot of so many doors."""
+    if not isinstance(lot, tuple):
+        raise BadLot("tuple")
+    last = ()
+    for parting in lot:
+        if not is_parting(parting) or len(parting) != number:
+            raise BadLot("parting")
+        if parting <= last:
+            raise BadLot("order")
+        last = parting
+
+
+def need_lot(lot, number):
+    """The lot of so many doors; BadNumber, then BadLot of any other value."""
+    need_lot_doors(number)
+    look_at_lot(lot, number)
+    return tuple(lot)

@@ -1,0 +1,309 @@
+"""What the document says, told by trying everything: slow, and written apart from the package."""
+
+import itertools
+import unittest
+
+import fittingdoors.errors as errors
+
+GREAT = 10 ** 999
+
+
+class Thing:
+    """A value of a kind that nothing knows."""
+
+
+def wrong_kinds():
+    """Values that are neither integers nor tuples."""
+    return [None, True, False, "", "0", "both", b"", b"0", [], [0], [0, 0], {}, {0: 0}, {0}, set(), Thing(), Thing]
+
+
+class TestCase(unittest.TestCase):
+    """Test cases that ask for the very class of an error and for its fields."""
+
+    maxDiff = 2000
+
+    def refused(self, error, fields, call, *values, **named):
+        with self.assertRaises(errors.FitError) as caught:
+            call(*values, **named)
+        self.assertIs(type(caught.exception), error, (call, values, named))
+        told = {name: getattr(caught.exception, name) for name in fields}
+        self.assertEqual(told, fields)
+        for name in fields:
+            self.assertIs(type(told[name]), type(fields[name]))
+
+    def plain(self, value):
+        """Only plain tuples, strings, integers, True, False and None are told."""
+        self.assertIn(type(value), (tuple, str, int, bool, type(None)))
+        if isinstance(value, tuple):
+            for thing in value:
+                self.plain(thing)
+
+    def check(self, expected, call, *values, **named):
+        told = call(*values, **named)
+        self.assertEqual(told, expected, (call, values))
+        self.assertIs(type(told), type(expected))
+        self.plain(told)
+
+
+def parting(blocks):
+    """The parting of any things at the doors."""
+    numbers = []
+    told = []
+    for block in blocks:
+        if block not in numbers:
+            numbers.append(block)
+        told.append(numbers.index(block))
+    return tuple(told)
+
+
+def partings(doors):
+    """All partings of so many doors, ascending, from all tuples of numbers."""
+    if doors == 0:
+        return [()]
+    rows = []
+    for row in itertools.product(*[range(door + 1) for door in range(doors)]):
+        if all(block <= max(row[:door], default=-1) + 1 for door, block in enumerate(row)):
+            rows.append(row)
+    return sorted(rows)
+
+
+def same_block_pairs(row):
+    return {(i, j) for i in range(len(row)) for j in range(len(row)) if row[i] == row[j]}
+
+
+def finer(low, high):
+    return same_block_pairs(low) <= same_block_pairs(high)
+
+
+def components(nodes, edges):
+    """The pieces of a graph, as sets of its nodes."""
+    near = {node: [] for node in nodes}
+    for one, two in edges:
+        near[one].append(two)
+        near[two].append(one)
+    found = []
+    seen = set()
+    for node in nodes:
+        if node not in seen:
+            piece = {node}
+            todo = [node]
+            while todo:
+                for other in near[todo.pop()]:
+                    if other not in piece:
+                        piece.add(other)
+                        todo.append(other)
+            seen |= piece
+            found.append(piece)
+    return found
+
+
+def web(p, q):
+    nodes = [("P", block) for block in sorted(set(p))] + [("Q", block) for block in sorted(set(q))]
+    return nodes, [(("P", a), ("Q", b)) for a, b in zip(p, q)]
+
+
+def is_wood(nodes, edges):
+    return len(edges) == len(nodes) - len(components(nodes, edges))
+
+
+def in_tree(p, q):
+    nodes, edges = web(p, q)
+    return len(edges) == len(nodes) - 1 and len(components(nodes, edges)) == 1
+
+
+def in_wood(p, q):
+    return is_wood(*web(p, q))
+
+
+def is_ring(p, q, doors):
+    """The words of the document on rings, for a tuple of doors."""
+    many = len(doors)
+    if many < 2 or many % 2 or len(set(doors)) < many:
+        return False
+    for at in range(many):
+        one, two = doors[at], doors[(at + 1) % many]
+        row = p if at % 2 == 0 else q
+        if row[one] != row[two]:
+            return False
+    for row in (p, q):
+        blocks = [row[door] for door in doors]
+        if any(blocks.count(block) > 2 for block in blocks):
+            return False
+    return True
+
+
+def all_rings(p, q):
+    doors = range(len(p))
+    return [row for many in range(2, len(p) + 1, 2) for row in itertools.permutations(doors, many)
+            if is_ring(p, q, row)]
+
+
+def is_way(p, q, doors):
+    """Whether doors go on in one block of p and in one block of q by turns."""
+    if len(set(doors)) != len(doors):
+        return False
+    for first in ((p, q), (q, p)):
+        if all(first[at % 2][doors[at]] == first[at % 2][doors[at + 1]] for at in range(len(doors) - 1)):
+            return True
+    return False
+
+
+def all_ends(doors, knots):
+    return [(-1, door) for door in range(doors)] + [(knot, place) for knot in range(knots) for place in range(3)]
+
+
+def pairings(ends):
+    """All ways to put ends on lines."""
+    if not ends:
+        return [()]
+    first, rest = ends[0], ends[1:]
+    return [((first, other),) + more for at, other in enumerate(rest)
+            for more in pairings(rest[:at] + rest[at + 1:])]
+
+
+def small_pieces(doors, knots):
+    """All plain pieces with so many doors and knots."""
+    ends = all_ends(doors, knots)
+    if len(ends) % 2:
+        return []
+    ways = pairings(ends)
+    return [(doors, sorts, tuple(sorted(lines))) for sorts in itertools.product(("both", "either"), repeat=knots)
+            for lines in ways]
+
+
+def random_piece(chance, doors, sorts):
+    """Some piece; lines and their ends in any order."""
+    ends = all_ends(doors, len(sorts))
+    chance.shuffle(ends)
+    lines = tuple((ends[at], ends[at + 1]) for at in range(0, len(ends), 2))
+    return doors, tuple(sorts), lines
+
+
+def settings(piece):
+    return list(itertools.product((0, 1), repeat=piece[1].count("either")))
+
+
+def setting_web(piece, setting):
+    """The web of a setting: its places and ties."""
+    line_of = {end: ("line", number) for number, line in enumerate(piece[2]) for end in line}
+    nodes = [("line", number) for number in range(len(piece[2]))]
+    edges = []
+    kept = list(setting)
+    for knot, sort in enumerate(piece[1]):
+        nodes.append(("knot", knot))
+        places = (0, 1, 2) if sort == "both" else (kept.pop(0), 2)
+        edges += [(("knot", knot), line_of[knot, place]) for place in places]
+    return nodes, edges, line_of
+
+
+def has_ring(piece, setting):
+    nodes, edges, _ = setting_web(piece, setting)
+    return not is_wood(nodes, edges)
+
+
+def left(piece, setting):
+    """What a setting leaves: a parting, () without doors, None if it is barred."""
+    nodes, edges, line_of = setting_web(piece, setting)
+    if not is_wood(nodes, edges):
+        return None
+    parts = components(nodes, edges)
+    doors = [line_of[-1, door] for door in range(piece[0])]
+    if not doors:
+        return () if len(parts) == 1 else None
+    if any(not any(door in part for door in doors) for part in parts):
+        return None
+    return parting([[door in part for part in parts].index(True) for door in doors])
+
+
+def lot(piece):
+    """The lot, None of a piece that is not sound."""
+    rows = [left(piece, setting) for setting in settings(piece)]
+    return None if None in rows else tuple(sorted(set(rows)))
+
+
+class Growth:
+    """A web that is one clump, whatever is kept, with loose ends at which it can grow."""
+
+    def __init__(self, chance):
+        self.chance = chance
+        self.sorts = []
+        self.lines = [["a", "b"]]
+        self.loose = ["a", "b"]
+
+    def hang(self, end):
+        """Put an end of a knot in the place of some loose end."""
+        mark = self.loose.pop(self.chance.randrange(len(self.loose)))
+        for line in self.lines:
+            for at in (0, 1):
+                if line[at] == mark:
+                    line[at] = end
+
+    def sprout(self, end):
+        """A new line from an end of a knot to a loose end."""
+        mark = f"{end}"
+        self.lines.append([end, mark])
+        self.loose.append(mark)
+
+    def both(self):
+        knot = len(self.sorts)
+        self.sorts.append("both")
+        places = self.chance.sample(range(3), 3)
+        self.hang((knot, places[0]))
+        self.sprout((knot, places[1]))
+        self.sprout((knot, places[2]))
+
+    def over(self):
+        """An EITHER knot with left and right on two loose ends."""
+        knot = len(self.sorts)
+        self.sorts.append("either")
+        self.hang((knot, 0))
+        self.hang((knot, 1))
+        self.sprout((knot, 2))
+
+    def cap(self):
+        """An EITHER knot with left and right on one line."""
+        knot = len(self.sorts)
+        self.sorts.append("either")
+        self.hang((knot, 2))
+        self.lines.append([(knot, 0), (knot, 1)])
+
+    def told(self, doors):
+        """The piece with its knots, lines and ends shuffled."""
+        for door in range(doors):
+            self.hang((-1, door))
+        chance = self.chance
+        names = chance.sample(range(len(self.sorts)), len(self.sorts))
+        lines = [[end if end[0] == -1 else (names[end[0]], end[1]) for end in line] for line in self.lines]
+        for line in lines:
+            chance.shuffle(line)
+        chance.shuffle(lines)
+        sorts = dict(zip(names, self.sorts))
+        return doors, tuple(sorts[knot] for knot in range(len(names))), tuple(tuple(line) for line in lines)
+
+
+def standing_piece(chance, knots, doors=0):
+    """A piece that is one part for every setting, with so many knots (one less if that can't be)."""
+    growth = Growth(chance)
+    left = knots - (knots + doors) % 2
+    while left > 0:
+        loose = len(growth.loose)
+        left -= 1
+        up = loose + 1 - doors <= left
+        down = doors - loose + 1 <= left and (loose > 1 or left == 0)
+        if up and (not down or chance.random() < 0.5):
+            growth.both()
+        elif loose > 1 and chance.random() < 0.7:
+            growth.over()
+        else:
+            growth.cap()
+    return growth.told(doors)
+
+
+def swapped(chance, piece, times=1):
+    """The piece with ends of two lines exchanged, so many times."""
+    doors, sorts, lines = piece
+    rows = [list(line) for line in lines]
+    for _ in range(times):
+        one, two = chance.sample(range(len(rows)), 2)
+        rows[one][0], rows[two][0] = rows[two][0], rows[one][0]
+    return doors, sorts, tuple(tuple(row) for row in rows)

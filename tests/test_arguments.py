@@ -1,0 +1,101 @@
+"""Points 0, 2 and 3: which wrong argument is told, arguments by place and by name, none is changed."""
+
+import copy
+import itertools
+
+from fittingdoors import (between, finer, halves, joining, lots, lotting, makers, meeters, meeting, melting, partings,
+                          pieces, routes, selecting, settings, turning)
+from fittingdoors.errors import (BadDoor, BadLot, BadName, BadNumber, BadParting, BadPiece, BadSetting, BadTies,
+                                 TooGreat)
+from tests.brute import GREAT, TestCase
+
+ROW = (0, 0, 1)
+OTHER = (0, 1, 1)
+SIXTY = (0,) * 60
+EITHER = (3, ("either",), (((-1, 0), (0, 0)), ((-1, 1), (0, 1)), ((-1, 2), (0, 2))))
+EMPTY = (0, (), ())
+THIRTEEN = (13, ("either",) * 13, tuple(line for knot in range(13) for line in
+                                        (((knot, 0), (knot, 1)), ((-1, knot), (knot, 2)))))
+
+# An argument: its name, a right value, and wrong values each with the error and its fields.
+NO_PARTING = [(None, BadParting, {"place": None}), ([0, 0, 1], BadParting, {"place": None}),
+              ((0, True, 1), BadParting, {"place": 1}), ((0,) * 61, BadParting, {"place": None})]
+UNLIKE = [((0, 0), BadNumber, {"number": 2}), (SIXTY, BadNumber, {"number": 60})]
+PARTING = ("parting", ROW, NO_PARTING)
+SECOND = ("other", OTHER, NO_PARTING + UNLIKE)
+THIRD = ("third", OTHER, NO_PARTING + UNLIKE)
+FREE = ("other", OTHER, NO_PARTING)
+NO_DOOR = [(value, BadDoor, {"door": value}) for value in (None, True, -1, 3, GREAT, "0", (0,))]
+NO_NUMBER = [(value, BadNumber, {"number": value}) for value in (None, False, -1, GREAT, "0", (0,))]
+NO_PIECE = [(None, BadPiece, {"word": "form", "place": None}), ((1, (), ()), BadPiece, {"word": "ends", "place": None}),
+            ((3, ("x",), (1,)), BadPiece, {"word": "knots", "place": 0}),
+            ((3, ("both",), (1,)), BadPiece, {"word": "lines", "place": 0})]
+PIECE = ("piece", EITHER, NO_PIECE)
+OTHER_PIECE = ("other", EITHER, NO_PIECE)
+FEW = ("piece", EITHER, NO_PIECE + [(THIRTEEN, TooGreat, {"most": 12})])
+FEW_DOORS = ("piece", EITHER, FEW[2] + [(EMPTY, TooGreat, {"most": 6})])
+WITHOUT = ("piece", EMPTY, NO_PIECE + [(EITHER, BadPiece, {"word": "doors", "place": None})])
+SETTING = ("setting", (1,), [(value, BadSetting, {}) for value in (None, (), (2,), (True,), [1])])
+TIES = ("ties", ((0, 1),), [([], BadTies, {"place": None}), (((0, 1), (1, 3)), BadTies, {"place": 1})])
+HALF = ("half", (None, 0, 0), [((None, 0), BadParting, {"place": None}), ((None, 0, 2), BadParting, {"place": 2})])
+MANY = ("number", 3, [(value, BadNumber, {"number": value}) for value in (None, 0, 7, "3", True)])
+LOT = ("lot", (ROW, OTHER), [([], BadLot, {"word": "tuple"}), ((ROW, ROW), BadLot, {"word": "order"}),
+                             ((ROW, (0, 0)), BadLot, {"word": "parting"})])
+
+# The functions with their arguments; the last thing tells the order in which they are looked at,
+# where it is another than their own.
+CALLS = [
+    (partings.need_parting, [PARTING]), (partings.size_of, [PARTING]), (partings.blocks_of, [PARTING]),
+    (partings.parting_of, [("blocks", (5, 3), [(None, BadParting, {"place": None}), ((5, "x"), BadParting, {"place": 1})])]),
+    (partings.all_partings, [("number", 3, [(61, BadNumber, {"number": 61}), (9, TooGreat, {"most": 5000})])]),
+    (selecting.parting_of_some, [PARTING, ("doors", (2, 0), [((), BadDoor, {"door": ()}), ((0, 3), BadDoor, {"door": 3})])]),
+    (selecting.beside, [PARTING, FREE]),
+    (finer.is_finer, [PARTING, SECOND]), (finer.finest_above, [PARTING, SECOND]), (finer.coarsest_below, [PARTING, SECOND]),
+    (between.between_number, [PARTING, SECOND]), (between.number_between, [PARTING, SECOND, THIRD]),
+    (between.between_at, [PARTING, ("other", (0, 0, 0), SECOND[2]), ("number", 0, NO_NUMBER)]),
+    (meeting.meet_in_tree, [PARTING, SECOND]), (meeting.meet_in_wood, [PARTING, SECOND]),
+    (meeting.is_ring, [PARTING, SECOND, ("doors", (0, 1), [])]), (meeting.ring, [PARTING, SECOND]),
+    (routes.way, [PARTING, SECOND, ("door", 0, NO_DOOR), ("other_door", 2, NO_DOOR)]),
+    (routes.sides, [PARTING, SECOND, ("door", 0, NO_DOOR)]), (routes.moves, [PARTING, SECOND]),
+    (meeters.meeting_number, [PARTING]), (meeters.all_meeting, [PARTING]),
+    (meeters.meeting_by_sizes, [PARTING, ("sizes", (2, 1), [((1, 2), BadNumber, {"number": (1, 2)})])]),
+    (meeters.meeting_pairs, [("number", 3, [(0, BadNumber, {"number": 0})])]),
+    (halves.completions_number, [PARTING, HALF]),
+    (halves.completion_at, [PARTING, HALF, ("number", 0, NO_NUMBER)]),
+    (halves.number_of_completion, [PARTING, HALF, SECOND]),
+    (pieces.need_piece, [PIECE]), (pieces.plain_piece, [PIECE]), (pieces.piece_size, [PIECE]),
+    (settings.either_knots, [PIECE]), (settings.need_setting, [PIECE, SETTING]), (settings.left_by, [PIECE, SETTING]),
+    (settings.why_barred, [PIECE, SETTING]), (settings.is_reason, [PIECE, SETTING, ("reason", ("ring", ()), [])]),
+    (lotting.is_sound, [FEW]), (lotting.bad_setting, [FEW]), (lotting.need_sound, [FEW]), (lotting.lot_of, [FEW_DOORS]),
+    (lotting.settings_leaving, [FEW_DOORS, PARTING]),
+    (melting.melting, [PIECE, ("parting", ROW, NO_PARTING + UNLIKE)]),
+    (melting.fits_tree, [PIECE, ("parting", ROW, NO_PARTING + UNLIKE)]),
+    (melting.stands, [WITHOUT]), (melting.barred_setting, [WITHOUT]),
+    (joining.joined, [PIECE, OTHER_PIECE, TIES]), (joining.tied, [PIECE, TIES]), (joining.fit, [PIECE, OTHER_PIECE]),
+    (makers.tree_piece, [("parting", ROW, NO_PARTING + [((0,) * 41, TooGreat, {"most": 40})])]),
+    (makers.knot_piece, [("sort", "both", [("x", BadName, {"name": "x"})])]),
+    (makers.doors_in_order, [PIECE, ("order", (2, 1, 0), [((0, 1), BadDoor, {"door": (0, 1)})])]),
+    (lots.need_lot, [LOT, MANY], ("number", "lot")), (turning.turned, [LOT, MANY], ("number", "lot")),
+    (turning.closed, [LOT, MANY], ("number", "lot")), (turning.is_closed, [LOT, MANY], ("number", "lot")),
+    (turning.closed_lots, [("number", 2, [(5, BadNumber, {"number": 5})])]),
+]
+
+
+class ArgumentTests(TestCase):
+    def test_first_wrong_argument(self):
+        for call, told, *order in CALLS:
+            names = [name for name, _, _ in told]
+            choices = [[(right, None, None)] + wrong for _, right, wrong in told]
+            for picked in itertools.product(*choices):
+                values = [value for value, _, _ in picked]
+                kept = copy.deepcopy(values)
+                wrong = {name: (error, fields) for name, (_, error, fields) in zip(names, picked) if error}
+                first = [name for name in (order[0] if order else names) if name in wrong]
+                if first:
+                    error, fields = wrong[first[0]]
+                    self.refused(error, fields, call, *values)
+                    self.refused(error, fields, call, **dict(zip(names, values)))
+                else:
+                    self.assertEqual(call(*values), call(**dict(zip(names, values))))
+                    self.assertEqual(call(*values), call(*values))
+                self.assertEqual(values, kept)

@@ -1,0 +1,41 @@
+"""The interface: names, parameters, and the file in which each function is defined."""
+
+import importlib
+import inspect
+
+from tests.brute import TestCase
+
+# The functions that have landed, each with its parameters, as the document lists them.
+LISTED = {
+    "partings": "need_parting(parting) is_parting(value) parting_of(blocks) size_of(parting) blocks_of(parting) "
+                "all_partings(number)",
+    "selecting": "parting_of_some(parting,doors) beside(parting,other)",
+    "finer": "is_finer(parting,other) finest_above(parting,other) coarsest_below(parting,other)",
+    "between": "between_number(parting,other) between_at(parting,other,number) number_between(parting,other,third)",
+    "meeting": "meet_in_tree(parting,other) meet_in_wood(parting,other) is_ring(parting,other,doors) ring(parting,other)",
+    "routes": "way(parting,other,door,other_door) sides(parting,other,door) moves(parting,other)",
+    "meeters": "meeting_number(parting) all_meeting(parting) meeting_by_sizes(parting,sizes) meeting_pairs(number)",
+    "halves": "completions_number(parting,half) completion_at(parting,half,number) "
+              "number_of_completion(parting,half,other)",
+    "pieces": "piece_fault(value) is_piece(value) need_piece(piece) plain_piece(piece) piece_size(piece)",
+    "settings": "either_knots(piece) need_setting(piece,setting) left_by(piece,setting) why_barred(piece,setting) "
+                "is_reason(piece,setting,reason)",
+    "lotting": "is_sound(piece) bad_setting(piece) need_sound(piece) lot_of(piece) settings_leaving(piece,parting)",
+    "melting": "melting(piece,parting) fits_tree(piece,parting) stands(piece) barred_setting(piece)",
+    "joining": "joined(piece,other,ties) tied(piece,ties) fit(piece,other)",
+    "makers": "tree_piece(parting) knot_piece(sort) doors_in_order(piece,order)",
+    "lots": "need_lot(lot,number)",
+    "turning": "turned(lot,number) closed(lot,number) is_closed(lot,number) closed_lots(number)",
+}
+
+
+class InterfaceTests(TestCase):
+    def test_names_and_parameters(self):
+        for name, listed in LISTED.items():
+            module = importlib.import_module("fittingdoors." + name)
+            for text in listed.split():
+                word, parameters = text[:-1].split("(")
+                function = getattr(module, word)
+                self.assertTrue(inspect.isfunction(function), text)
+                self.assertEqual(function.__module__, module.__name__)
+                self.assertEqual(",".join(inspect.signature(function).parameters), parameters)
