@@ -173,6 +173,7 @@ class JoiningTests(TestCase):
         for value in [*things, (1, 2), (2, 0), (2, 2), (2, 4)]:
             self.refused(BadTies, {"place": 1}, tied, (4, *lines_only(4)[1:]), ((0, 1), value, "x"))
         self.refused(BadTies, {"place": 0}, tied, one, ((2, 2),))
+        self.refused(BadTies, {"place": 0}, tied, one, ((0, 1, 2),))
         self.refused(BadTies, {"place": 0}, joined, one, two, ((0, 2),))
         self.refused(BadTies, {"place": 0}, joined, one, EMPTY, ((0, 0),))
         self.refused(BadTies, {"place": 2}, joined, one, two, ((0, 0), (1, 1), (2, 0)))

@@ -59,6 +59,7 @@ class MeetingTests(TestCase):
         # By turns, but the block of doors 0, 1, 4, 5 is met twice.
         one, two = (0, 0, 1, 1, 0, 0, 2, 2), (0, 1, 1, 2, 2, 3, 3, 0)
         self.check(False, is_ring, one, two, (0, 1, 2, 3, 4, 5, 6, 7))
+        self.check(False, is_ring, two, one, (1, 2, 3, 4, 5, 6, 7, 0))
         self.check(True, is_ring, one, two, (1, 4, 3, 2))
         self.check(True, is_ring, (0, 0), (0, 0), (1, 0))
         self.check(True, is_ring, parting=(0, 0), other=(0, 0), doors=(0, 1))

@@ -185,6 +185,8 @@ class MeltingTests(TestCase):
             self.refused(BadNumber, {"number": doors}, fits_tree, line, (0,) * doors)
             self.refused(BadNumber, {"number": doors}, melting, EMPTY, (0,) * doors)
             self.refused(BadNumber, {"number": doors}, fits_tree, EMPTY, (0,) * doors)
+        knot = (1, ("either",), (((0, 0), (0, 1)), ((-1, 0), (0, 2))))
+        self.refused(BadParting, {"place": None}, melting, knot, ())
         # () is no parting, so there is no tree piece of it.
         self.refused(BadParting, {"place": None}, fits_tree, EMPTY, ())
 

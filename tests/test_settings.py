@@ -199,6 +199,13 @@ class SettingTests(TestCase):
         for value in [*wrong_kinds(), 0, (), ("ring",), ("ring", (good,), 0), ["ring", (good,)], (("ring",), (good,)),
                       ("rings", (good,)), ("part", (good,)), ("ring", good), deep, ("ring", deep), ("part", deep)]:
             self.check(False, is_reason, piece, setting, value)
+        for value in [*wrong_kinds(), 0, GREAT, "ring", [good], list(good)]:
+            for word in ("ring", "part", value):
+                self.check(False, is_reason, piece, setting, (word, value))
+        caps = (1, ("either",) * 3, (((0, 0), (0, 1)), ((0, 2), (1, 2)), ((1, 0), (1, 1)), ((2, 0), (2, 1)),
+                                     ((2, 2), (-1, 0))))
+        self.check(True, is_reason, caps, (0, 0, 0), ("part", (0, 1, 2)))
+        self.check(False, is_reason, caps, (0, 0, 0), ("part", [0, 1, 2]))
         for value in [*wrong_kinds(), 0, (), (1,), (0, 0), ((0, 0),), [(0, 0), (0, 1)], ((0, 0), (0, 1), (0, 2)),
                       ((0, 0), (0, True)), ((False, 0), (0, 1)), ((0, 0), (1, 1)), ((0, 0), (0, 3)), ((-1, 0), (-1, 0)),
                       ((-1, 0), (0, 2)), ((0, 0), (GREAT, 1)), ((0, 0), None), (None, (0, 0))]:
