@@ -48,9 +48,9 @@ def web_counts(parting, half):
     return [(told, free) for told, free in counts.values()]
 
 
-def shifted_sum(low, high, free):
-    """LOW times a polynomial plus HIGH times it, shifted: the product with LOW + HIGH * z."""
-    return [low * here + high * there for here, there in zip([*free, 0], [0, *free])]
+def times_linear(row, low, high):
+    """The coefficients of the polynomial with these ones, times LOW + HIGH * z."""
+    return [low * here + high * there for here, there in zip([*row, 0], [0, *row])]
 
 
 def products(counts):
@@ -59,8 +59,8 @@ def products(counts):
     marked = [0]
     for told, free in counts:
         once = [*[told * free * here for here in whole], 0]
-        marked = [here + there for here, there in zip(shifted_sum(told, free, marked), once)]
-        whole = shifted_sum(told, free, whole)
+        marked = [here + there for here, there in zip(times_linear(marked, told, free), once)]
+        whole = times_linear(whole, told, free)
     return whole, marked
 
 
