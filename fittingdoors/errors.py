@@ -59,11 +59,11 @@ class BadForm(FitError):
 
 
 class BadNumber(FitError):
-    """No number that can stand there."""
+    """No number that can stand there: the value that was passed, or a number of doors."""
 
-    def __init__(self, number):
+    def __init__(self, value):
         super().__init__("no such number")
-        self.number = number
+        self.value = value
 
 
 class BadName(FitError):

@@ -20,13 +20,13 @@ THIRTEEN = (13, ("either",) * 13, tuple(line for knot in range(13) for line in
 # An argument: its name, a right value, and wrong values each with the error and its fields.
 NO_PARTING = [(None, BadParting, {"place": None}), ([0, 0, 1], BadParting, {"place": None}),
               ((0, True, 1), BadParting, {"place": 1}), ((0,) * 61, BadParting, {"place": None})]
-UNLIKE = [((0, 0), BadNumber, {"number": 2}), (SIXTY, BadNumber, {"number": 60})]
+UNLIKE = [((0, 0), BadNumber, {"value": 2}), (SIXTY, BadNumber, {"value": 60})]
 PARTING = ("parting", ROW, NO_PARTING)
 SECOND = ("other", OTHER, NO_PARTING + UNLIKE)
 THIRD = ("third", OTHER, NO_PARTING + UNLIKE)
 FREE = ("other", OTHER, NO_PARTING)
 NO_DOOR = [(value, BadDoor, {"door": value}) for value in (None, True, -1, 3, GREAT, "0", (0,))]
-NO_NUMBER = [(value, BadNumber, {"number": value}) for value in (None, False, -1, GREAT, "0", (0,))]
+NO_NUMBER = [(value, BadNumber, {"value": value}) for value in (None, False, -1, GREAT, "0", (0,))]
 NO_PIECE = [(None, BadPiece, {"word": "form", "place": None}), ((1, (), ()), BadPiece, {"word": "ends", "place": None}),
             ((3, ("x",), (1,)), BadPiece, {"word": "knots", "place": 0}),
             ((3, ("both",), (1,)), BadPiece, {"word": "lines", "place": 0})]
@@ -38,7 +38,7 @@ WITHOUT = ("piece", EMPTY, NO_PIECE + [(EITHER, BadPiece, {"word": "doors", "pla
 SETTING = ("setting", (1,), [(value, BadSetting, {}) for value in (None, (), (2,), (True,), [1])])
 TIES = ("ties", ((0, 1),), [([], BadTies, {"place": None}), (((0, 1), (1, 3)), BadTies, {"place": 1})])
 HALF = ("half", (None, 0, 0), [((None, 0), BadParting, {"place": None}), ((None, 0, 2), BadParting, {"place": 2})])
-MANY = ("number", 3, [(value, BadNumber, {"number": value}) for value in (None, 0, 7, "3", True)])
+MANY = ("number", 3, [(value, BadNumber, {"value": value}) for value in (None, 0, 7, "3", True)])
 LOT = ("lot", (ROW, OTHER), [([], BadLot, {"word": "tuple"}), ((ROW, ROW), BadLot, {"word": "order"}),
                              ((ROW, (0, 0)), BadLot, {"word": "parting"})])
 
@@ -47,7 +47,7 @@ LOT = ("lot", (ROW, OTHER), [([], BadLot, {"word": "tuple"}), ((ROW, ROW), BadLo
 CALLS = [
     (partings.need_parting, [PARTING]), (partings.size_of, [PARTING]), (partings.blocks_of, [PARTING]),
     (partings.parting_of, [("blocks", (5, 3), [(None, BadParting, {"place": None}), ((5, "x"), BadParting, {"place": 1})])]),
-    (partings.all_partings, [("number", 3, [(61, BadNumber, {"number": 61}), (9, TooGreat, {"most": 5000})])]),
+    (partings.all_partings, [("number", 3, [(61, BadNumber, {"value": 61}), (9, TooGreat, {"most": 5000})])]),
     (selecting.parting_of_some, [PARTING, ("doors", (2, 0), [((), BadDoor, {"door": ()}), ((0, 3), BadDoor, {"door": 3})])]),
     (selecting.beside, [PARTING, FREE]),
     (finer.is_finer, [PARTING, SECOND]), (finer.finest_above, [PARTING, SECOND]), (finer.coarsest_below, [PARTING, SECOND]),
@@ -58,8 +58,8 @@ CALLS = [
     (routes.way, [PARTING, SECOND, ("door", 0, NO_DOOR), ("other_door", 2, NO_DOOR)]),
     (routes.sides, [PARTING, SECOND, ("door", 0, NO_DOOR)]), (routes.moves, [PARTING, SECOND]),
     (meeters.meeting_number, [PARTING]), (meeters.all_meeting, [PARTING]),
-    (meeters.meeting_by_sizes, [PARTING, ("sizes", (2, 1), [((1, 2), BadNumber, {"number": (1, 2)})])]),
-    (meeters.meeting_pairs, [("number", 3, [(0, BadNumber, {"number": 0})])]),
+    (meeters.meeting_by_sizes, [PARTING, ("sizes", (2, 1), [((1, 2), BadNumber, {"value": (1, 2)})])]),
+    (meeters.meeting_pairs, [("number", 3, [(0, BadNumber, {"value": 0})])]),
     (halves.completions_number, [PARTING, HALF]),
     (halves.completion_at, [PARTING, HALF, ("number", 0, NO_NUMBER)]),
     (halves.number_of_completion, [PARTING, HALF, SECOND]),
@@ -77,7 +77,7 @@ CALLS = [
     (makers.doors_in_order, [PIECE, ("order", (2, 1, 0), [((0, 1), BadDoor, {"door": (0, 1)})])]),
     (lots.need_lot, [LOT, MANY], ("number", "lot")), (turning.turned, [LOT, MANY], ("number", "lot")),
     (turning.closed, [LOT, MANY], ("number", "lot")), (turning.is_closed, [LOT, MANY], ("number", "lot")),
-    (turning.closed_lots, [("number", 2, [(5, BadNumber, {"number": 5})])]),
+    (turning.closed_lots, [("number", 2, [(5, BadNumber, {"value": 5})])]),
 ]
 
 

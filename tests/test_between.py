@@ -33,7 +33,7 @@ class BetweenTests(TestCase):
                     for number, row in enumerate(found):
                         self.check(row, between_at, one, two, number)
                     for number in (-1, len(found), len(found) + 1, GREAT):
-                        self.refused(BadNumber, {"number": number}, between_at, one, two, number)
+                        self.refused(BadNumber, {"value": number}, between_at, one, two, number)
                     if doors < 5 or rows.index(one) % 7 == 3:
                         for row in rows:
                             place = found.index(row) if row in found else None
@@ -49,7 +49,7 @@ class BetweenTests(TestCase):
         self.check(many, between_number, FINEST, COARSEST)
         self.check(FINEST, between_at, FINEST, COARSEST, many - 1)
         self.check(COARSEST, between_at, FINEST, COARSEST, 0)
-        self.refused(BadNumber, {"number": many}, between_at, FINEST, COARSEST, many)
+        self.refused(BadNumber, {"value": many}, between_at, FINEST, COARSEST, many)
         chance = random.Random(2)
         last = None
         for number in sorted(chance.randrange(many) for _ in range(10)):
@@ -81,6 +81,6 @@ class BetweenTests(TestCase):
 
     def test_wrong_numbers(self):
         for value in [*wrong_kinds(), -1, -GREAT, (0,), (), 5]:
-            self.refused(BadNumber, {"number": value}, between_at, (0, 1, 2), (0, 0, 0), value)
+            self.refused(BadNumber, {"value": value}, between_at, (0, 1, 2), (0, 0, 0), value)
         for value in [*wrong_kinds(), 0, 1, -1, (0,)]:
-            self.refused(BadNumber, {"number": value}, between_at, (0, 0, 0), (0, 1, 2), value)
+            self.refused(BadNumber, {"value": value}, between_at, (0, 0, 0), (0, 1, 2), value)

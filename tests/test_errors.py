@@ -8,7 +8,7 @@ from tests.brute import GREAT, TestCase, wrong_kinds
 
 FIELDS = {
     "BadParting": ("place",), "BadLot": ("word",), "BadPiece": ("word", "place"), "BadSetting": (),
-    "BadTies": ("place",), "BadDoor": ("door",), "BadForm": ("path",), "BadNumber": ("number",),
+    "BadTies": ("place",), "BadDoor": ("door",), "BadForm": ("path",), "BadNumber": ("value",),
     "BadName": ("name",), "BadText": ("line", "column"), "BadLetter": ("number",), "BadTerm": ("path",),
     "NotSound": ("setting",), "NothingBack": (), "TooGreat": ("most",),
 }
@@ -50,7 +50,7 @@ class ErrorTests(TestCase):
     def test_values_are_not_changed(self):
         value = [1, [2]]
         kept = copy.deepcopy(value)
-        self.assertIs(errors.BadNumber(value).number, value)
+        self.assertIs(errors.BadNumber(value).value, value)
         self.assertEqual(value, kept)
 
     def test_raised_and_caught(self):

@@ -73,7 +73,7 @@ class HalfTests(TestCase):
         for number, row in enumerate(rows):
             self.check(row, completion_at, one, half, number)
             self.check(number, number_of_completion, one, half, row)
-        self.refused(BadNumber, {"number": len(rows)}, completion_at, one, half, len(rows))
+        self.refused(BadNumber, {"value": len(rows)}, completion_at, one, half, len(rows))
         if whole:
             for row in brute.partings(len(one)):
                 if row not in rows:
@@ -134,7 +134,7 @@ class HalfTests(TestCase):
                 self.assertTrue(brute.in_tree(one, row))
                 self.assertIsNotNone(code(tuple(half), row))
                 self.check(number, number_of_completion, one, tuple(half), row)
-            self.refused(BadNumber, {"number": many}, completion_at, one, tuple(half), many)
+            self.refused(BadNumber, {"value": many}, completion_at, one, tuple(half), many)
 
     def told_anew(self, half):
         told = iter(brute.parting([block for block in half if block is not None]))
@@ -168,11 +168,11 @@ class HalfTests(TestCase):
             self.refused(TooGreat, {"most": 30}, number_of_completion, one, half, COARSEST[:doors])
             self.check(1, completions_number, one, half)
             for value in [*wrong_kinds(), -1, -GREAT, (0,)]:
-                self.refused(BadNumber, {"number": value}, completion_at, one, half, value)
-            self.refused(BadNumber, {"number": 1}, number_of_completion, one, half, (0,))
+                self.refused(BadNumber, {"value": value}, completion_at, one, half, value)
+            self.refused(BadNumber, {"value": 1}, number_of_completion, one, half, (0,))
             self.refused(BadParting, {"place": 0}, number_of_completion, one, half, ("x",))
         for value in [*wrong_kinds(), -1, 1, 2, GREAT]:
-            self.refused(BadNumber, {"number": value}, completion_at, (0, 1), (0, None), value)
+            self.refused(BadNumber, {"value": value}, completion_at, (0, 1), (0, None), value)
         self.check((0,) * 30, completion_at, FINEST[:30], (None,) * 30, 0)
         self.check(0, number_of_completion, FINEST[:30], (None,) * 30, (0,) * 30)
 

@@ -103,9 +103,9 @@ class MeeterTests(TestCase):
         values = [*wrong_kinds(), (), 3, GREAT, (1, 2), (2, 2), (1,), (3, 0), (4, -1), (61,), (2, 1, 0), [2, 1],
                   ("2", 1), (2, None), (2, True), (2, (1,)), (GREAT,), (1,) * 61]
         for value in values:
-            self.refused(BadNumber, {"number": value}, meeting_by_sizes, row, value)
-        self.refused(BadNumber, {"number": (60, 1)}, meeting_by_sizes, COARSEST, (60, 1))
+            self.refused(BadNumber, {"value": value}, meeting_by_sizes, row, value)
+        self.refused(BadNumber, {"value": (60, 1)}, meeting_by_sizes, COARSEST, (60, 1))
 
     def test_wrong_numbers(self):
         for value in [*wrong_kinds(), 0, -1, 61, GREAT, -GREAT, (3,), ()]:
-            self.refused(BadNumber, {"number": value}, meeting_pairs, value)
+            self.refused(BadNumber, {"value": value}, meeting_pairs, value)

@@ -181,10 +181,10 @@ class MeltingTests(TestCase):
                 self.refused(BadParting, {"place": 0}, melting, piece, value)
                 self.refused(BadParting, {"place": 0}, fits_tree, piece, value)
         for doors in (1, 3, 60):
-            self.refused(BadNumber, {"number": doors}, melting, line, (0,) * doors)
-            self.refused(BadNumber, {"number": doors}, fits_tree, line, (0,) * doors)
-            self.refused(BadNumber, {"number": doors}, melting, EMPTY, (0,) * doors)
-            self.refused(BadNumber, {"number": doors}, fits_tree, EMPTY, (0,) * doors)
+            self.refused(BadNumber, {"value": doors}, melting, line, (0,) * doors)
+            self.refused(BadNumber, {"value": doors}, fits_tree, line, (0,) * doors)
+            self.refused(BadNumber, {"value": doors}, melting, EMPTY, (0,) * doors)
+            self.refused(BadNumber, {"value": doors}, fits_tree, EMPTY, (0,) * doors)
         knot = (1, ("either",), (((0, 0), (0, 1)), ((-1, 0), (0, 2))))
         self.refused(BadParting, {"place": None}, melting, knot, ())
         # () is no parting, so there is no tree piece of it.

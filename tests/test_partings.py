@@ -92,7 +92,7 @@ class PartingTests(TestCase):
 
     def test_all_partings_wrong(self):
         for value in [*wrong_kinds(), 0, -1, 61, GREAT, -GREAT, (3,), ()]:
-            self.refused(BadNumber, {"number": value}, all_partings, value)
+            self.refused(BadNumber, {"value": value}, all_partings, value)
         for value in (9, 10, 59, 60):
             self.refused(TooGreat, {"most": 5000}, all_partings, value)
 

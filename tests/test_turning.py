@@ -42,7 +42,7 @@ class LotTests(TestCase):
         for call in (need_lot, turned, closed, is_closed):
             for number in [*wrong_kinds(), 0, -1, 7, 60, GREAT, -GREAT, (3,), ()]:
                 for lot in ((), None, ("x",), ((0, 0), (0, 0)), ((0,) * 7,)):
-                    self.refused(BadNumber, {"number": number}, call, lot, number)
+                    self.refused(BadNumber, {"value": number}, call, lot, number)
 
     def test_wrong_lots(self):
         good = ((0, 0, 0), (0, 0, 1), (0, 1, 0), (0, 1, 2))
@@ -127,4 +127,4 @@ class TurningTests(TestCase):
 
     def test_closed_lots_wrong(self):
         for value in [*wrong_kinds(), 0, -1, 5, 6, GREAT, (1,), ()]:
-            self.refused(BadNumber, {"number": value}, closed_lots, value)
+            self.refused(BadNumber, {"value": value}, closed_lots, value)
