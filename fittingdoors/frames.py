@@ -1,4 +1,4 @@
-"""What a piece leaves, told with as little work for each setting as can be."""
+"""What a piece leaves once its lines are joined at its BOTH knots."""
 
 from fittingdoors.clumps import Clumps
 from fittingdoors.partings import numbered
@@ -6,17 +6,29 @@ from fittingdoors.pieces import knots_of_sort, line_numbers, lines_at
 
 
 class Frame:
-    """A piece whose lines are joined at its BOTH knots already; its settings are left."""
+    """A piece whose lines are joined at its BOTH knots already; its settings are left.
 
-    def __init__(self, piece):
+    The doors of each of some blocks may be joined, too. Each clump of lines is told by one of them,
+    its head.
+    """
+
+    def __init__(self, piece, blocks=()):
         numbers = line_numbers(piece)
         self.clumps = Clumps(len(piece[2]))
         self.has_ring = False
         for knot in knots_of_sort(piece, "both"):
             if not self.clumps.unite_all(lines_at(numbers, knot)):
                 self.has_ring = True
-        self.knots = [lines_at(numbers, knot) for knot in knots_of_sort(piece, "either")]
-        self.ends = [numbers[(-1, door)] for door in range(piece[0])]
+        for doors in blocks:
+            if not self.clumps.unite_all([numbers[(-1, door)] for door in doors]):
+                self.has_ring = True
+        rows = [lines_at(numbers, knot) for knot in knots_of_sort(piece, "either")]
+        self.knots = [[self.clumps.head(line) for line in lines] for lines in rows]
+        self.ends = [self.clumps.head(numbers[(-1, door)]) for door in range(piece[0])]
+
+    def all_heads(self):
+        """The heads of all clumps."""
+        return [line for line in range(len(self.clumps.heads)) if self.clumps.head(line) == line]
 
     def joined_by(self, setting):
         """The clumps of lines that a setting joins, None if there is a ring."""
@@ -38,11 +50,3 @@ class Frame:
         if clumps.many != max(parting, default=0) + 1:
             return None
         return parting
-
-
-def settings_of(many):
-    """All settings of so many EITHER knots, ascending."""
-    rows = [()]
-    for _ in range(many):
-        rows = [row + (kept,) for row in rows for kept in (0, 1)]
-    return rows

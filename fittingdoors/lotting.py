@@ -1,10 +1,10 @@
 """Whether a piece is sound, and which partings its settings leave."""
 
 from fittingdoors.errors import NotSound, TooGreat
-from fittingdoors.frames import Frame, settings_of
 from fittingdoors.lots import MOST_LOT_DOORS
 from fittingdoors.partings import need_parting
 from fittingdoors.pieces import knots_of_sort, need_piece
+from fittingdoors.sweeps import Leaving, least_barred
 
 MOST_EITHER_KNOTS = 12
 
@@ -21,15 +21,6 @@ def need_few_doors(piece):
     need_few_settings(piece)
     if piece[0] < 1 or piece[0] > MOST_LOT_DOORS:
         raise TooGreat(MOST_LOT_DOORS)
-
-
-def least_barred(piece):
-    """The least barred setting, or None."""
-    frame = Frame(piece)
-    for setting in settings_of(len(frame.knots)):
-        if frame.left_by(setting) is None:
-            return setting
-    return None
 
 
 def is_sound(piece):
@@ -54,15 +45,11 @@ def need_sound(piece):
 
 
 def all_left(piece):
-    """All that the settings leave, ascending; NotSound as soon as one is barred."""
-    frame = Frame(piece)
-    seen = set()
-    for setting in settings_of(len(frame.knots)):
-        parting = frame.left_by(setting)
-        if parting is None:
-            raise NotSound(setting)
-        seen.add(parting)
-    return tuple(sorted(seen))
+    """All partings that the settings of a piece with doors leave, ascending; NotSound if it is not sound."""
+    leaving = Leaving(piece)
+    if leaving.bad is not None:
+        raise NotSound(leaving.bad)
+    return tuple(sorted(leaving.least))
 
 
 def lot_of(piece):
@@ -75,5 +62,4 @@ def settings_leaving(piece, parting):
     """How many settings leave this parting."""
     need_few_doors(piece)
     need_parting(parting)
-    frame = Frame(piece)
-    return [frame.left_by(setting) for setting in settings_of(len(frame.knots))].count(tuple(parting))
+    return Leaving(piece).counts.get(tuple(parting), 0)

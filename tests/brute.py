@@ -307,3 +307,34 @@ def swapped(chance, piece, times=1):
         one, two = chance.sample(range(len(rows)), 2)
         rows[one][0], rows[two][0] = rows[two][0], rows[one][0]
     return doors, sorts, tuple(tuple(row) for row in rows)
+
+
+def opened(piece, gone):
+    """The piece without some knots; what was on them are new doors behind all others."""
+    doors, sorts, lines = piece
+    names = {knot: at for at, knot in enumerate(knot for knot in range(len(sorts)) if knot not in gone)}
+    rows = []
+    for line in lines:
+        row = []
+        for knot, place in line:
+            if knot in names:
+                row.append((names[knot], place))
+            elif knot == -1:
+                row.append((-1, place))
+            else:
+                row.append((-1, doors))
+                doors += 1
+        rows.append(tuple(row))
+    return doors, tuple(sort for knot, sort in enumerate(sorts) if knot in names), tuple(rows)
+
+
+
+def sound_piece(chance, doors, knots):
+    """Some sound piece with so many doors and at most so many knots; its lot has often several partings."""
+    while True:
+        many = chance.randrange(knots + 1)
+        sorts = [chance.choice(("both", "either", "either")) for _ in range(many - (many + doors) % 2)]
+        if many >= (many + doors) % 2:
+            piece = random_piece(chance, doors, sorts)
+            if lot(piece) is not None:
+                return piece
