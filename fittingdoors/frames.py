@@ -8,27 +8,28 @@ from fittingdoors.pieces import knots_of_sort, line_numbers, lines_at
 class Frame:
     """A piece whose lines are joined at its BOTH knots already; its settings are left.
 
-    The doors of each of some blocks may be joined, too. Each clump of lines is told by one of them,
-    its head.
+    Each clump of lines is told by one of them, its head: KNOTS has the heads at each EITHER knot,
+    ENDS those at the doors.
     """
 
-    def __init__(self, piece, blocks=()):
-        numbers = line_numbers(piece)
-        self.clumps = Clumps(len(piece[2]))
-        self.has_ring = False
-        for knot in knots_of_sort(piece, "both"):
-            if not self.clumps.unite_all(lines_at(numbers, knot)):
-                self.has_ring = True
-        for doors in blocks:
-            if not self.clumps.unite_all([numbers[(-1, door)] for door in doors]):
-                self.has_ring = True
-        rows = [lines_at(numbers, knot) for knot in knots_of_sort(piece, "either")]
-        self.knots = [[self.clumps.head(line) for line in lines] for lines in rows]
-        self.ends = [self.clumps.head(numbers[(-1, door)]) for door in range(piece[0])]
+    def __init__(self, clumps, has_ring, knots, ends):
+        self.clumps = clumps
+        self.has_ring = has_ring
+        self.knots = [[clumps.head(line) for line in lines] for lines in knots]
+        self.ends = [clumps.head(line) for line in ends]
 
     def all_heads(self):
         """The heads of all clumps."""
         return [line for line in range(len(self.clumps.heads)) if self.clumps.head(line) == line]
+
+    def with_doors_joined(self, blocks):
+        """This frame when the doors of each of these blocks are joined; it is not changed itself."""
+        clumps = self.clumps.twin()
+        has_ring = self.has_ring
+        for doors in blocks:
+            if not clumps.unite_all([self.ends[door] for door in doors]):
+                has_ring = True
+        return Frame(clumps, has_ring, self.knots, self.ends)
 
     def joined_by(self, setting):
         """The clumps of lines that a setting joins, None if there is a ring."""
@@ -50,3 +51,15 @@ class Frame:
         if clumps.many != max(parting, default=0) + 1:
             return None
         return parting
+
+
+def frame_of(piece):
+    """The frame of a piece."""
+    numbers = line_numbers(piece)
+    clumps = Clumps(len(piece[2]))
+    has_ring = False
+    for knot in knots_of_sort(piece, "both"):
+        if not clumps.unite_all(lines_at(numbers, knot)):
+            has_ring = True
+    knots = [lines_at(numbers, knot) for knot in knots_of_sort(piece, "either")]
+    return Frame(clumps, has_ring, knots, [numbers[(-1, door)] for door in range(piece[0])])

@@ -31,3 +31,11 @@ def need_lot(lot, number):
     need_lot_doors(number)
     look_at_lot(lot, number)
     return tuple(lot)
+
+
+def need_some_lot(lot, number):
+    """The lot of so many doors, which must not be empty; BadLot("empty") behind the other errors."""
+    need_lot(lot, number)
+    if len(lot) == 0:
+        raise BadLot("empty")
+    return tuple(lot)

@@ -6,9 +6,13 @@ from fittingdoors.partings import doors_by_block, need_parting
 from fittingdoors.pieces import MOST_PIECE_DOORS, is_sort, need_piece, plain_lines
 
 
-def tree_of_doors(doors, knot):
-    """The knots, numbered from KNOT on, and the lines of the tree of the doors of one block."""
-    ends = [(-1, door) for door in doors]
+def door_ends(doors):
+    """The ends of these doors."""
+    return [(-1, door) for door in doors]
+
+
+def tree_of_ends(ends, knot):
+    """The knots, numbered from KNOT on, and the lines of a tree that joins these ends."""
     if len(ends) == 1:
         return ["either"], [((knot, 0), (knot, 1)), (ends[0], (knot, 2))]
     if len(ends) == 2:
@@ -32,7 +36,7 @@ def tree_piece(parting):
     knots = []
     lines = []
     for doors in doors_by_block(parting):
-        more_knots, more_lines = tree_of_doors(doors, len(knots))
+        more_knots, more_lines = tree_of_ends(door_ends(doors), len(knots))
         knots.extend(more_knots)
         lines.extend(more_lines)
     return len(parting), tuple(knots), plain_lines(lines)

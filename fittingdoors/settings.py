@@ -2,7 +2,7 @@
 
 from fittingdoors.clumps import Clumps
 from fittingdoors.errors import BadSetting
-from fittingdoors.frames import Frame
+from fittingdoors.frames import frame_of
 from fittingdoors.kinds import is_integer_within, is_tuple_within
 from fittingdoors.pieces import is_end, knots_of_sort, line_numbers, need_piece
 
@@ -32,7 +32,7 @@ def need_setting(piece, setting):
 def left_by(piece, setting):
     """The parting that a setting leaves, () without doors, None if it is barred."""
     need_setting(piece, setting)
-    return Frame(piece).left_by(setting)
+    return frame_of(piece).left_by(setting)
 
 
 def joined_places(piece, setting):

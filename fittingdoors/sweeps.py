@@ -4,7 +4,7 @@ What the settings of the first knots leave is kept only as far as later knots, a
 for, can tell it apart: so there are far fewer rows to go on with than settings.
 """
 
-from fittingdoors.frames import Frame
+from fittingdoors.frames import frame_of
 from fittingdoors.partings import numbered
 
 
@@ -116,7 +116,7 @@ def united(row, place, other, needed):
 
 def least_barred(piece):
     """The least barred setting, or None."""
-    sweep = Sweep(Frame(piece), True, False)
+    sweep = Sweep(frame_of(piece), True, False)
     sweep.run()
     return sweep.bad
 
@@ -126,7 +126,7 @@ class Leaving:
     parting the least setting that leaves it and how many do."""
 
     def __init__(self, piece):
-        frame = Frame(piece)
+        frame = frame_of(piece)
         sweep = Sweep(frame, True, True)
         rows = sweep.run()
         self.bad = sweep.bad
@@ -138,8 +138,8 @@ class Leaving:
             self.counts[parting] = count
 
 
-def rings_with(piece, blocks):
+def rings_with(frame, blocks):
     """Whether some setting leaves a ring if the doors of each of these blocks are joined."""
-    sweep = Sweep(Frame(piece, blocks), False, False)
+    sweep = Sweep(frame.with_doors_joined(blocks), False, False)
     sweep.run()
     return sweep.bad is not None

@@ -115,6 +115,106 @@ def in_wood(p, q):
     return is_wood(*web(p, q))
 
 
+
+ALL = {}
+MEETS = {}
+
+
+def all_of(doors):
+    """All partings of so many doors, as a tuple."""
+    if doors not in ALL:
+        ALL[doors] = tuple(partings(doors))
+    return ALL[doors]
+
+
+def meets(one, two):
+    """Whether they meet in a tree, each pair told once."""
+    if (one, two) not in MEETS:
+        MEETS[one, two] = in_tree(one, two)
+    return MEETS[one, two]
+
+
+def turned(lot, doors):
+    return tuple(row for row in all_of(doors) if all(meets(row, other) for other in lot))
+
+
+def closed(lot, doors):
+    return turned(turned(lot, doors), doors)
+
+
+def lots_of(doors):
+    """All lots of so many doors."""
+    rows = all_of(doors)
+    return [lot for many in range(len(rows) + 1) for lot in itertools.combinations(rows, many)]
+
+
+def random_lot(chance, doors, most=6):
+    """Some lot, as a rule with partings of one size, that is met by something."""
+    rows = all_of(doors)
+    kind = chance.randrange(4)
+    if kind == 0:
+        return tuple(sorted(chance.sample(rows, min(len(rows), chance.randrange(most)))))
+    some = chance.sample(turned((chance.choice(rows),), doors), 1)
+    if kind == 1:
+        some += chance.sample(rows, 1)
+    lot = turned(tuple(some), doors)
+    return tuple(sorted(chance.sample(lot, min(len(lot), chance.randrange(1, most)))))
+
+
+def glued(p, q, ties):
+    """What the document says of two partings that are tied; None if they are barred."""
+    nodes, _ = web(p, q)
+    edges = [(("P", p[one]), ("Q", q[two])) for one, two in ties]
+    ends = [("P", p[door]) for door in range(len(p)) if door not in [one for one, _ in ties]]
+    ends += [("Q", q[door]) for door in range(len(q)) if door not in [two for _, two in ties]]
+    return hung_together(nodes, edges, ends)
+
+
+def tied(p, ties):
+    """What comes of one parting two doors of which are tied by each tie."""
+    edges = [(p[one], p[two]) for one, two in ties]
+    return hung_together(sorted(set(p)), edges, [p[door] for door in range(len(p)) if door not in sum(ties, ())])
+
+
+def hung_together(nodes, edges, ends):
+    """The parting of open doors by the pieces of a web, ENDS being their places; None if it is barred."""
+    if not is_wood(nodes, edges):
+        return None
+    parts = components(nodes, edges)
+    if not ends:
+        return () if len(parts) == 1 else None
+    if any(not any(end in part for end in ends) for part in parts):
+        return None
+    return parting([[end in part for part in parts].index(True) for end in ends])
+
+
+def all_glued(lot, other, ties):
+    rows = [glued(p, q, ties) for p in lot for q in other]
+    return None if None in rows else tuple(sorted(set(rows)))
+
+
+def all_tied(lot, ties):
+    rows = [tied(p, ties) for p in lot]
+    return None if None in rows else tuple(sorted(set(rows)))
+
+
+def all_ties(doors, other_doors, most=6):
+    """All ties with at most so many of them, each ascending."""
+    rows = []
+    for many in range(min(doors, other_doors, most) + 1):
+        for firsts in itertools.combinations(range(doors), many):
+            rows += [tuple(zip(firsts, seconds)) for seconds in itertools.permutations(range(other_doors), many)]
+    return rows
+
+
+def own_ties(doors):
+    """All ties of unlike doors of one thing, each as a set, the lesser door first."""
+    rows = [()]
+    for one, two in itertools.combinations(range(doors), 2):
+        rows += [row + ((one, two),) for row in rows if one not in sum(row, ()) and two not in sum(row, ())]
+    return rows
+
+
 def is_ring(p, q, doors):
     """The words of the document on rings, for a tuple of doors."""
     many = len(doors)

@@ -3,10 +3,11 @@
 import copy
 import itertools
 
-from fittingdoors import (between, finer, halves, joining, lots, lotting, makers, meeters, meeting, melting, partings,
-                          pieces, routes, selecting, settings, turning)
+from fittingdoors import (alike, besides, between, finer, finishing, glueing, halves, holes, joining, lots, lotting,
+                          makers, meeters, meeting, melting, order, origins, partings, pieces, routes, selecting,
+                          settings, shifting, turning, tying)
 from fittingdoors.errors import (BadDoor, BadLot, BadName, BadNumber, BadParting, BadPiece, BadSetting, BadTies,
-                                 TooGreat)
+                                 NotSound, TooGreat)
 from tests.brute import GREAT, TestCase
 
 ROW = (0, 0, 1)
@@ -41,6 +42,21 @@ HALF = ("half", (None, 0, 0), [((None, 0), BadParting, {"place": None}), ((None,
 MANY = ("number", 3, [(value, BadNumber, {"value": value}) for value in (None, 0, 7, "3", True)])
 LOT = ("lot", (ROW, OTHER), [([], BadLot, {"word": "tuple"}), ((ROW, ROW), BadLot, {"word": "order"}),
                              ((ROW, (0, 0)), BadLot, {"word": "parting"})])
+OTHER_LOT = ("other", (OTHER, (0, 1, 2)), LOT[2])
+OTHER_MANY = ("other_number", 3, MANY[2])
+LOTS = [LOT, MANY, OTHER_LOT, OTHER_MANY]
+LOTS_ORDER = ("number", "lot", "other_number", "other")
+CLOSED_LOT = ("lot", (OTHER,), LOT[2] + [((ROW, (0, 1, 2)), BadLot, {"word": "closed"})])
+SECOND_DOORS = ("other", EITHER, FEW_DOORS[2] + [((2, (), (((-1, 0), (-1, 1)),)), BadNumber, {"value": 2})])
+BARRED = (2, ("either", "both"), (((-1, 0), (0, 0)), ((0, 1), (1, 0)), ((0, 2), (1, 1)), ((1, 2), (-1, 1))))
+SOUND = ("piece", EITHER, FEW[2] + [(EMPTY, BadNumber, {"value": 0}), (BARRED, NotSound, {"setting": (1,)})])
+OF_PIECE = ("parting", ROW, NO_PARTING + UNLIKE)
+ONE_TIE = ("ties", ((0, 2),), TIES[2])
+NOT_ALL = ("ties", ((0, 2),), TIES[2] + [(((0, 0), (1, 1), (2, 2)), BadTies, {"place": None})])
+HOLE = ("hole", (1, 0), [((), BadDoor, {"door": ()}), ((0, 0), BadDoor, {"door": 0}), ((0, 3), BadDoor, {"door": 3})])
+GOAL = ("goal", ((0,),), [(None, BadLot, {"word": "tuple"}), (((0, 0),), BadLot, {"word": "parting"})])
+FILLS = [LOT, MANY, HOLE, GOAL]
+PAPER = ("paper", ((ROW, None), (ROW, None)), [(None, BadLot, {"word": "paper"})])
 
 # The functions with their arguments; the last thing tells the order in which they are looked at,
 # where it is another than their own.
@@ -78,6 +94,28 @@ CALLS = [
     (lots.need_lot, [LOT, MANY], ("number", "lot")), (turning.turned, [LOT, MANY], ("number", "lot")),
     (turning.closed, [LOT, MANY], ("number", "lot")), (turning.is_closed, [LOT, MANY], ("number", "lot")),
     (turning.closed_lots, [("number", 2, [(5, BadNumber, {"value": 5})])]),
+    (order.met, [LOT, OTHER_LOT, MANY], ("number", "lot", "other")),
+    (order.spanned, [LOT, OTHER_LOT, MANY], ("number", "lot", "other")),
+    (besides.lots_beside, LOTS, LOTS_ORDER),
+    (besides.side_parts, [("lot", (ROW,), LOT[2] + [((), BadLot, {"word": "empty"})]), MANY], ("number", "lot")),
+    (alike.turned_piece, [FEW_DOORS]), (alike.parted, [FEW_DOORS, SECOND_DOORS]),
+    (alike.goes_for, [FEW_DOORS, SECOND_DOORS]),
+    (shifting.shifted, [PARTING, SECOND]), (shifting.shift_piece, [PARTING, SECOND]),
+    (shifting.shift_classes, [LOT, MANY], ("number", "lot")),
+    (finishing.left_partings, [SOUND]), (finishing.free_pairs, [SOUND]),
+    (finishing.is_open, [SOUND, OF_PIECE]), (finishing.finished, [SOUND, OF_PIECE]),
+    (origins.why_none, [CLOSED_LOT, MANY], ("number", "lot")), (origins.piece_of, [CLOSED_LOT, MANY], ("number", "lot")),
+    (origins.knots_needed, [PARTING]),
+    (glueing.glued, [PARTING, FREE, ONE_TIE]), (glueing.lots_joined, [*LOTS, NOT_ALL], (*LOTS_ORDER, "ties")),
+    (glueing.lot_tied, [LOT, MANY, ONE_TIE], ("number", "lot", "ties")),
+    (holes.fillers, FILLS, ("number", "lot", "hole", "goal")),
+    (holes.no_filler_paper, FILLS, ("number", "lot", "hole", "goal")),
+    (holes.fills_hole, [*FILLS, ("other", ((0, 1),), [(None, BadLot, {"word": "tuple"})])],
+     ("number", "lot", "hole", "goal", "other")),
+    (holes.need_no_filler_paper, [*FILLS, PAPER], ("number", "lot", "hole", "goal", "paper")),
+    (tying.ties_come, [*LOTS, ONE_TIE], (*LOTS_ORDER, "ties")), (tying.ties_counted, LOTS, LOTS_ORDER),
+    (tying.all_ties, [*LOTS, ("many", 1, [(4, BadNumber, {"value": 4})])], (*LOTS_ORDER, "many")),
+    (tying.most_ties, LOTS, LOTS_ORDER),
 ]
 
 

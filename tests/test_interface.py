@@ -26,6 +26,17 @@ LISTED = {
     "makers": "tree_piece(parting) knot_piece(sort) doors_in_order(piece,order)",
     "lots": "need_lot(lot,number)",
     "turning": "turned(lot,number) closed(lot,number) is_closed(lot,number) closed_lots(number)",
+    "order": "met(lot,other,number) spanned(lot,other,number)",
+    "besides": "lots_beside(lot,number,other,other_number) side_parts(lot,number)",
+    "alike": "turned_piece(piece) parted(piece,other) goes_for(piece,other)",
+    "shifting": "shifted(parting,other) shift_classes(lot,number) shift_piece(parting,other)",
+    "finishing": "left_partings(piece) is_open(piece,parting) finished(piece,parting) free_pairs(piece)",
+    "origins": "why_none(lot,number) piece_of(lot,number) knots_needed(parting)",
+    "glueing": "glued(parting,other,ties) lots_joined(lot,number,other,other_number,ties) lot_tied(lot,number,ties)",
+    "holes": "fillers(lot,number,hole,goal) fills_hole(lot,number,hole,goal,other) "
+             "no_filler_paper(lot,number,hole,goal) need_no_filler_paper(lot,number,hole,goal,paper)",
+    "tying": "ties_come(lot,number,other,other_number,ties) ties_counted(lot,number,other,other_number) "
+             "all_ties(lot,number,other,other_number,many) most_ties(lot,number,other,other_number)",
 }
 
 

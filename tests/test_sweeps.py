@@ -4,7 +4,7 @@ import itertools
 import random
 import time
 
-from fittingdoors.frames import Frame
+from fittingdoors.frames import frame_of
 from fittingdoors.lotting import bad_setting, is_sound, lot_of, need_sound, settings_leaving
 from fittingdoors.sweeps import Leaving, least_barred, rings_with
 from tests import brute
@@ -67,7 +67,7 @@ class SweepTests(TestCase):
                 pieces.append(brute.swapped(chance, pieces[-1]))
         for piece in pieces:
             self.assertEqual(piece[1].count("either"), 12)
-            frame = Frame(piece)
+            frame = frame_of(piece)
             self.one(piece, [frame.left_by(setting) for setting in brute.settings(piece)])
 
     def test_rings_with_blocks(self):
@@ -78,8 +78,9 @@ class SweepTests(TestCase):
             for other in brute.partings(piece[0]):
                 blocks = [[door for door in range(piece[0]) if other[door] == block] for block in sorted(set(other))]
                 right = not all(brute.in_wood(row, other) for row in rows)
-                self.check(right, rings_with, piece, blocks)
-        self.check(True, rings_with, (0, ("both",) * 2, (((0, 0), (0, 1)), ((0, 2), (1, 2)), ((1, 0), (1, 1)))), [])
+                self.check(right, rings_with, frame_of(piece), blocks)
+        loop = (0, ("both",) * 2, (((0, 0), (0, 1)), ((0, 2), (1, 2)), ((1, 0), (1, 1))))
+        self.check(True, rings_with, frame_of(loop), [])
 
     def test_few_rows(self):
         # No time is promised; but checks over many pieces with 12 EITHER knots have to come to an end.

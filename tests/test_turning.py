@@ -9,29 +9,13 @@ from fittingdoors.turning import closed, closed_lots, is_closed, turned
 from tests import brute
 from tests.brute import GREAT, TestCase, wrong_kinds
 
-ALL = {doors: tuple(brute.partings(doors)) for doors in range(1, 7)}
-MEETS = {}
-
-
-def meets(one, two):
-    """Whether they meet in a tree, each pair told once."""
-    if (one, two) not in MEETS:
-        MEETS[one, two] = brute.in_tree(one, two)
-    return MEETS[one, two]
-
-
-def right_turned(lot, doors):
-    return tuple(row for row in ALL[doors] if all(meets(row, other) for other in lot))
-
-
-def lots_of(doors):
-    return [lot for many in range(len(ALL[doors]) + 1) for lot in itertools.combinations(ALL[doors], many)]
+ALL = {doors: brute.all_of(doors) for doors in range(1, 7)}
 
 
 class LotTests(TestCase):
     def test_need_lot(self):
         for doors in (1, 2, 3):
-            for lot in lots_of(doors):
+            for lot in brute.lots_of(doors):
                 self.check(lot, need_lot, lot, doors)
         for doors in range(1, 7):
             self.check((), need_lot, (), doors)
@@ -66,15 +50,15 @@ class LotTests(TestCase):
 
 class TurningTests(TestCase):
     def one(self, lot, doors):
-        right = right_turned(lot, doors)
-        again = right_turned(right, doors)
+        right = brute.turned(lot, doors)
+        again = brute.turned(right, doors)
         self.check(right, turned, lot, doors)
         self.check(again, closed, lot, doors)
         self.check(again == lot, is_closed, lot, doors)
 
     def test_all_lots_of_few_doors(self):
         for doors in (1, 2, 3):
-            for lot in lots_of(doors):
+            for lot in brute.lots_of(doors):
                 self.one(lot, doors)
 
     def test_some_lots(self):
@@ -114,16 +98,16 @@ class TurningTests(TestCase):
             self.assertEqual(list(rows), sorted(set(rows)))
             self.plain(rows)
             for lot in rows:
-                self.assertEqual(right_turned(right_turned(lot, doors), doors), lot)
+                self.assertEqual(brute.turned(brute.turned(lot, doors), doors), lot)
         for doors in (1, 2, 3):
-            right = tuple(sorted(lot for lot in lots_of(doors)
-                                 if right_turned(right_turned(lot, doors), doors) == lot))
+            right = tuple(sorted(lot for lot in brute.lots_of(doors)
+                                 if brute.turned(brute.turned(lot, doors), doors) == lot))
             self.check(right, closed_lots, doors)
         # Of four doors each closed lot is turned of some lot: here of all lots of up to three partings.
         four = set(closed_lots(4))
         for many in range(4):
             for lot in itertools.combinations(ALL[4], many):
-                self.assertIn(right_turned(lot, 4), four)
+                self.assertIn(brute.turned(lot, 4), four)
 
     def test_closed_lots_wrong(self):
         for value in [*wrong_kinds(), 0, -1, 5, 6, GREAT, (1,), ()]:
