@@ -13,17 +13,25 @@ def need_lot_doors(number):
         raise BadNumber(number)
 
 
+def lot_fault(value, number):
+    """None for a lot of so many doors, otherwise the word for what is wrong first."""
+    if not isinstance(value, tuple):
+        return "tuple"
+    last = ()
+    for parting in value:
+        if not is_parting(parting) or len(parting) != number:
+            return "parting"
+        if parting <= last:
+            return "order"
+        last = parting
+    return None
+
+
 def look_at_lot(lot, number):
     """BadLot unless this is a lot of so many doors."""
-    if not isinstance(lot, tuple):
-        raise BadLot("tuple")
-    last = ()
-    for parting in lot:
-        if not is_parting(parting) or len(parting) != number:
-            raise BadLot("parting")
-        if parting <= last:
-            raise BadLot("order")
-        last = parting
+    word = lot_fault(lot, number)
+    if word is not None:
+        raise BadLot(word)
 
 
 def need_lot(lot, number):

@@ -90,28 +90,37 @@ class Sweep:
         return told
 
 
-def united(row, place, other, needed):
-    """The row of the clumps that are needed further, two parts made one; None if it is barred."""
+def merged(row, place, other):
+    """The row with the parts at two places made one; None if they are one already."""
     stays = row[place]
     goes = row[other]
     if stays == goes:
         return None
     if stays >= 0:
         stays, goes = goes, stays
-    parts = [stays if part == goes else part for part in row]
+    return [stays if part == goes else part for part in row]
+
+
+def trimmed(row, needed):
+    """The row of the clumps that are needed further, numbered anew; None if a part comes to no door any more."""
     numbers = {}
     told = []
-    for part in parts[:needed]:
+    for part in row[:needed]:
         number = numbers.get(part)
         if number is None:
             number = len(numbers) if part >= 0 else -1 - len(numbers)
             numbers[part] = number
         told.append(number)
-    for part in parts[needed:]:
-        # No later knot meets this part, so it comes to no door.
+    for part in row[needed:]:
         if part >= 0 and part not in numbers:
             return None
     return tuple(told)
+
+
+def united(row, place, other, needed):
+    """The row behind one more knot, which makes the parts at two places one; None if it is barred."""
+    parts = merged(row, place, other)
+    return None if parts is None else trimmed(parts, needed)
 
 
 def least_barred(piece):

@@ -438,3 +438,82 @@ def sound_piece(chance, doors, knots):
             piece = random_piece(chance, doors, sorts)
             if lot(piece) is not None:
                 return piece
+
+
+def parts_of(piece):
+    """The lines of each part of a piece that hangs together."""
+    doors, sorts, lines = piece
+    line_of = {end: number for number, line in enumerate(lines) for end in line}
+    edges = [(line_of[knot, 0], line_of[knot, place]) for knot in range(len(sorts)) for place in (1, 2)]
+    return components(range(len(lines)), edges)
+
+
+def term_web(alphabet, term):
+    """The letters in a term, from the left, and its ties, each door with the place of its letter."""
+    letters = []
+    ties = []
+
+    def add(one):
+        at = len(letters)
+        letters.append(one[0])
+        door, downs, _ = alphabet[one[0]]
+        for width, inner in zip(downs, one[1:]):
+            below = len(letters)
+            add(inner)
+            ties.extend([((at, door + step), (below, step)) for step in range(width)])
+            door += width
+
+    add(term)
+    return letters, ties
+
+
+def term_lot(alphabet, term):
+    """The lot of a term by all choices of partings; None if it is barred."""
+    letters, ties = term_web(alphabet, term)
+    told = set()
+    for rows in itertools.product(*[alphabet[letter][2] for letter in letters]):
+        nodes = [(at, block) for at, row in enumerate(rows) for block in sorted(set(row))]
+        edges = [((at, rows[at][door]), (below, rows[below][other])) for (at, door), (below, other) in ties]
+        ends = [(0, rows[0][door]) for door in range(alphabet[letters[0]][0])]
+        told.add(hung_together(nodes, edges, ends))
+    return None if None in told else tuple(sorted(told))
+
+
+def size_of_term(term):
+    return 1 + sum(size_of_term(inner) for inner in term[1:])
+
+
+def all_terms(alphabet, most):
+    """All terms with at most so many letters, those with fewer letters first, then as Python compares."""
+    rows = {0: []}
+    for size in range(1, most + 1):
+        rows[size] = []
+        for letter, (_, downs, _) in enumerate(alphabet):
+            for sizes in itertools.product(range(1, size), repeat=len(downs)):
+                if sum(sizes) == size - 1:
+                    choices = [[inner for inner in rows[one] if alphabet[inner[0]][0] == width]
+                               for one, width in zip(sizes, downs)]
+                    rows[size] += [(letter, *inner) for inner in itertools.product(*choices)]
+    return [term for size in range(1, most + 1) for term in sorted(rows[size])]
+
+
+def random_letter(chance, up, downs, sound=True):
+    """Some letter; SOUND: with the lot of a sound piece."""
+    doors = up + sum(downs)
+    if sound:
+        return up, downs, lot(sound_piece(chance, doors, 4))
+    told = ()
+    while not told:
+        told = random_lot(chance, doors, 5)
+    return up, downs, told
+
+
+def random_alphabet(chance, most=4, widths=(1, 2, 2, 3), sound=True):
+    """Some alphabet, as a rule with terms of two widths."""
+    told = []
+    for number in range(chance.randrange(1, most + 1)):
+        up = chance.choice(widths)
+        downs = tuple(chance.choice(widths) for _ in range(chance.choice((0, 0, 1, 1, 2)) if number else 0))
+        told.append(random_letter(chance, up, downs if up + sum(downs) <= 6 else (), sound))
+    chance.shuffle(told)
+    return tuple(told)
