@@ -508,12 +508,14 @@ def random_letter(chance, up, downs, sound=True):
     return up, downs, told
 
 
-def random_alphabet(chance, most=4, widths=(1, 2, 2, 3), sound=True):
-    """Some alphabet, as a rule with terms of two widths."""
+def random_alphabet(chance, most=5, sound=True):
+    """Some alphabet, as a rule with terms of one or two widths."""
+    widths = chance.sample((1, 2, 2, 3), 2)
     told = []
     for number in range(chance.randrange(1, most + 1)):
-        up = chance.choice(widths)
-        downs = tuple(chance.choice(widths) for _ in range(chance.choice((0, 0, 1, 1, 2)) if number else 0))
-        told.append(random_letter(chance, up, downs if up + sum(downs) <= 6 else (), sound))
+        up = widths[number] if number < 2 else chance.choice(widths)
+        many = chance.choice((1, 1, 2)) if number > 1 or chance.random() < 0.1 else 0
+        downs = tuple(chance.choice(widths) for _ in range(many))
+        told.append(random_letter(chance, up, downs if up + sum(downs) <= 6 else downs[:1], sound))
     chance.shuffle(told)
     return tuple(told)

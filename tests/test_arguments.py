@@ -3,11 +3,11 @@
 import copy
 import itertools
 
-from fittingdoors import (alike, besides, between, finer, finishing, glueing, halves, holes, joining, lots, lotting,
-                          makers, meeters, meeting, melting, order, origins, partings, pieces, routes, selecting,
-                          settings, shifting, turning, tying)
-from fittingdoors.errors import (BadDoor, BadLot, BadName, BadNumber, BadParting, BadPiece, BadSetting, BadTies,
-                                 NotSound, TooGreat)
+from fittingdoors import (alike, besides, between, chains, cutting, finer, finishing, glueing, halves, holes, joining,
+                          letters, lots, lotting, makers, meeters, meeting, melting, order, origins, partings, pieces,
+                          prices, routes, selecting, settings, shifting, states, tables, terms, together, turning, tying)
+from fittingdoors.errors import (BadDoor, BadLetter, BadLot, BadName, BadNumber, BadParting, BadPiece, BadSetting,
+                                 BadTerm, BadTies, NotSound, TooGreat)
 from tests.brute import GREAT, TestCase
 
 ROW = (0, 0, 1)
@@ -57,6 +57,21 @@ HOLE = ("hole", (1, 0), [((), BadDoor, {"door": ()}), ((0, 0), BadDoor, {"door":
 GOAL = ("goal", ((0,),), [(None, BadLot, {"word": "tuple"}), (((0, 0),), BadLot, {"word": "parting"})])
 FILLS = [LOT, MANY, HOLE, GOAL]
 PAPER = ("paper", ((ROW, None), (ROW, None)), [(None, BadLot, {"word": "paper"})])
+
+SOME = ("lot", (ROW,), LOT[2] + [((), BadLot, {"word": "empty"})])
+LINK = [("lot", ((0, 1),), LOT[2][:1] + [((ROW,), BadLot, {"word": "parting"}), ((), BadLot, {"word": "empty"})]),
+        ("doors", 2, [(3, BadNumber, {"value": 3}), (None, BadNumber, {"value": None})])]
+CUTS = ("lines", (0, 2), [(None, BadNumber, {"value": None}), ((2, 2), BadNumber, {"value": 2}),
+                          ((3,), BadNumber, {"value": 3})])
+ONE_LETTER = (2, (1,), (ROW,))
+NO_ALPHABET = [(None, BadLetter, {"number": None}), ((ONE_LETTER, (1, (), ())), BadLetter, {"number": 1})]
+ALPHABET = ("alphabet", (ONE_LETTER, (1, (), ((0,),))), NO_ALPHABET)
+ROWS = ("rows", ((2, (1,), EITHER), (1, (), (1, ("either",), (((-1, 0), (0, 2)), ((0, 0), (0, 1)))))),
+        [(None, BadLetter, {"number": None}), (((1, (1,), EITHER),), BadLetter, {"number": 0})])
+TERM = ("term", (0, (1,)), [(None, BadTerm, {"path": ()}), ((0, (0, (1,))), BadTerm, {"path": (0,)})])
+SYSTEM = ("system", (ALPHABET[1], 2, ((0, 0),)), [
+    (None, BadLetter, {"number": None}), ((NO_ALPHABET[1][0], None, None), BadLetter, {"number": 1}),
+    ((ALPHABET[1], 6, None), BadNumber, {"value": 6}), ((ALPHABET[1], 2, ()), BadLot, {"word": "empty"})])
 
 # The functions with their arguments; the last thing tells the order in which they are looked at,
 # where it is another than their own.
@@ -116,6 +131,16 @@ CALLS = [
     (tying.ties_come, [*LOTS, ONE_TIE], (*LOTS_ORDER, "ties")), (tying.ties_counted, LOTS, LOTS_ORDER),
     (tying.all_ties, [*LOTS, ("many", 1, [(4, BadNumber, {"value": 4})])], (*LOTS_ORDER, "many")),
     (tying.most_ties, LOTS, LOTS_ORDER),
+    (together.doors_joined, [SOME, MANY], ("number", "lot")),
+    (cutting.cut, [PIECE, CUTS]), (cutting.hanging, [PIECE]), (cutting.is_sound_by_parts, [PIECE, CUTS]),
+    (prices.prices, [LOT, OTHER_LOT, MANY], ("number", "lot", "other")),
+    (chains.chained, [*LINK, ("times", 3, NO_NUMBER)], ("doors", "lot", "times")),
+    (chains.course, LINK, ("doors", "lot")), (chains.closed_course, LINK, ("doors", "lot")),
+    (letters.need_alphabet, [ALPHABET]), (letters.need_term, [ALPHABET, TERM]), (letters.alphabet_of, [ROWS]),
+    (letters.term_piece, [ROWS, TERM]),
+    (terms.term_lot, [ALPHABET, TERM]), (terms.gains, [ALPHABET]), (terms.need_system, [SYSTEM]),
+    (terms.term_stands, [SYSTEM, TERM]), (states.all_states, [ALPHABET]), (states.state_of, [ALPHABET, TERM]),
+    (tables.least_table, [SYSTEM]), (tables.class_of, [SYSTEM, TERM]),
 ]
 
 

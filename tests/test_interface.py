@@ -37,6 +37,14 @@ LISTED = {
              "no_filler_paper(lot,number,hole,goal) need_no_filler_paper(lot,number,hole,goal,paper)",
     "tying": "ties_come(lot,number,other,other_number,ties) ties_counted(lot,number,other,other_number) "
              "all_ties(lot,number,other,other_number,many) most_ties(lot,number,other,other_number)",
+    "together": "doors_joined(lot,number)",
+    "cutting": "cut(piece,lines) hanging(piece) is_sound_by_parts(piece,lines)",
+    "prices": "prices(lot,other,number)",
+    "chains": "chained(lot,doors,times) course(lot,doors) closed_course(lot,doors)",
+    "letters": "need_alphabet(alphabet) need_term(alphabet,term) alphabet_of(rows) term_piece(rows,term)",
+    "terms": "term_lot(alphabet,term) gains(alphabet) need_system(system) term_stands(system,term)",
+    "states": "all_states(alphabet) state_of(alphabet,term)",
+    "tables": "least_table(system) class_of(system,term)",
 }
 
 
