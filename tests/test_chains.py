@@ -112,6 +112,18 @@ class ChainTests(TestCase):
         self.assertEqual(self.one((SHIFT,), 6), (1, 3, (1, 3)))
         self.assertEqual(self.one(((0, 1, 2, 1, 0, 2), SHIFT), 6), (3, 1, (3, 1)))
 
+    def test_long_courses(self):
+        for right, lot in (
+                ((2, 2, (1, 2)), ((0, 1, 2, 0, 0, 0), (0, 1, 2, 0, 0, 1), (0, 1, 2, 0, 2, 1))),
+                ((2, 2, (2, 2)), ((0, 0, 1, 0, 1, 2), (0, 1, 0, 0, 2, 1))),
+                ((2, 3, (2, 1)), ((0, 1, 2, 0, 0, 0), SHIFT, (0, 1, 2, 2, 2, 2))),
+                ((3, 4, (3, 1)), ((0, 0, 1, 0, 1, 2), (0, 1, 0, 1, 2, 0))),
+                ((5, 3, (1, 1)), ((0, 1, 2, 0, 2, 0), (0, 1, 2, 1, 1, 2), (0, 1, 2, 2, 0, 1))),
+                ((6, 2, (2, 1)), ((0, 1, 2, 1, 0, 2), (0, 1, 2, 1, 1, 0), (0, 1, 2, 2, 1, 0))),
+                ((8, 3, (5, 1)), ((0, 0, 1, 1, 2, 0), (0, 1, 2, 2, 0, 1))),
+                ((13, 3, (2, 1)), ((0, 0, 0, 1, 0, 2), (0, 1, 0, 1, 2, 0), SHIFT))):
+            self.assertEqual(self.one(lot, 6), right)
+
     def test_closed_course_is_less(self):
         # Lots that are unlike but have one closed lot: found among all of few partings.
         seen = set()

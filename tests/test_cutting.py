@@ -113,6 +113,7 @@ class CutTests(TestCase):
             for line in [*wrong_kinds(), -1, 3, 0, (1,), 10 ** 999, (), (0, 1)]:
                 self.refused(BadNumber, {"value": line}, call, either, (0, line, None))
             self.refused(BadNumber, {"value": 1}, call, either, (1, 1))
+            self.refused(BadNumber, {"value": -1}, call, either, (-1, 0))
             self.refused(BadNumber, {"value": 0}, call, either, (1, 0))
             self.refused(BadNumber, {"value": 3}, call, either, (3, 9))
             self.refused(BadNumber, {"value": 0}, call, EMPTY, (0,))
@@ -232,6 +233,9 @@ class SoundTests(TestCase):
             self.check(False, is_sound_by_parts, twice, ())
             beside = (2, sorts, (((-1, 0), (-1, 1)),) + lines)
             self.check(False, is_sound_by_parts, beside, ())
+            # Every part has doors, and there is no ring; but there are two webs in the place of one.
+            for one, two in itertools.product(range(3), repeat=2):
+                self.check(False, is_sound_by_parts, twice, (one, two + 3))
             for many in range(4):
                 for cuts in itertools.combinations(range(3), many):
                     self.check(stands(piece), is_sound_by_parts, piece, cuts)

@@ -197,6 +197,14 @@ class TableTests(TestCase):
         self.assertGreater(max(counts), 4)
         self.assertGreater(fewer, 30)
 
+    def test_what_stands_at_the_other_bundle(self):
+        # Two terms that are told apart just by what stands beside them.
+        alphabet = ((3, (), ((0, 0, 1),)), (3, (), ((0, 0, 0),)), (1, (3, 2), ((0, 0, 1, 2, 2, 1),)),
+                    (2, (1,), ((0, 0, 0),)), (2, (), ((0, 1),)), (2, (), ((0, 0), (0, 1))))
+        ((rows, _), _) = self.one((alphabet, 2, ((0, 1),)))
+        self.assertEqual(len(rows), 7)
+        self.one((alphabet, 1, ((0,),)))
+
     def test_terms_that_go_for_one_another(self):
         # Terms of one class stand alike wherever they are put; those of two classes somewhere do not.
         chance = random.Random(232)
