@@ -17,16 +17,15 @@ class States:
     def __init__(self, alphabet):
         self.alphabet = alphabet
         # For each state its UP, its closed lot or None, its least term.
-        self.told = []
+        self.known = []
         # For each state the lot of its least term and how many letters this has.
         self.lots = []
         self.sizes = []
         self.state_numbers = {}
         # For each letter and the states at its bundles the state that comes.
         self.steps = {}
-        waiting = []
-        for use in self.uses():
-            heappush(waiting, use)
+        # What is sorted is a heap.
+        waiting = sorted(self.uses())
         while len(waiting) > 0:
             if self.settle(heappop(waiting)):
                 for use in self.uses():
@@ -37,18 +36,18 @@ class States:
 
         Each stands behind its number of letters, and ahead of the states at its bundles.
         """
-        last = len(self.told) - 1
-        told = []
+        last = len(self.known) - 1
+        found = []
         for letter, (_, downs, _) in enumerate(self.alphabet):
             rows = [()]
             for width in downs:
-                states = [state for state, (up, _, _) in enumerate(self.told) if up == width]
+                states = [state for state, (up, _, _) in enumerate(self.known) if up == width]
                 rows = [(*row, state) for row in rows for state in states]
             for inner in rows:
                 if last in inner or last == -1:
-                    term = (letter, *[self.told[state][2] for state in inner])
-                    told.append((1 + sum([self.sizes[state] for state in inner]), term, inner))
-        return told
+                    term = (letter, *[self.known[state][2] for state in inner])
+                    found.append((1 + sum([self.sizes[state] for state in inner]), term, inner))
+        return found
 
     def settle(self, use):
         """Note the state of a term; whether it is a new one."""
@@ -57,13 +56,13 @@ class States:
         lot = lot_above(letter, [self.lots[state] for state in inner])
         guards = () if lot is None else turned_lot(lot, letter[0])
         if len(guards) == 0:
-            # Nothing that is built over this term is met by anything, nor is it told apart further.
+            # What nothing meets is told apart no further, nor is what is built over it.
             lot = None
         state = (letter[0], None if lot is None else turned_lot(guards, letter[0]))
         is_new = state not in self.state_numbers
         if is_new:
-            self.state_numbers[state] = len(self.told)
-            self.told.append((*state, term))
+            self.state_numbers[state] = len(self.known)
+            self.known.append((*state, term))
             self.lots.append(lot)
             self.sizes.append(size)
         self.steps[(term[0], inner)] = self.state_numbers[state]
@@ -76,7 +75,7 @@ class States:
 
 def all_states(alphabet):
     """For each state its UP, its closed lot or None, and its least term."""
-    return tuple(States(need_alphabet(alphabet)).told)
+    return tuple(States(need_alphabet(alphabet)).known)
 
 
 def state_of(alphabet, term):

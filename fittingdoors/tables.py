@@ -12,8 +12,8 @@ class Table:
     def __init__(self, system):
         alphabet, self.width, self.goal = system
         self.states = States(alphabet)
-        self.stands = [self.is_standing(state) for state in self.states.told]
-        ups = [up for up, _, _ in self.states.told]
+        self.stands = [self.is_standing(state) for state in self.states.known]
+        ups = [up for up, _, _ in self.states.known]
         self.classes = numbered(list(zip(ups, self.stands)))
         seats = self.seats()
         finer = self.classes_parted(seats)
@@ -32,7 +32,7 @@ class Table:
         States with the same UP have the same seats, in the same order: the letter, which bundle,
         and the states at the other one.
         """
-        told = [[] for _ in self.states.told]
+        told = [[] for _ in self.states.known]
         for (letter, inner), state in self.states.steps.items():
             for bundle, one in enumerate(inner):
                 told[one].append(((letter, bundle, inner[:bundle], inner[bundle + 1:]), state))
@@ -49,11 +49,11 @@ class Table:
 
     def class_rows(self):
         """For each class its UP, whether its terms stand, and its least term."""
-        told = {}
+        rows = {}
         # The states come by their least terms; the first one of a class has that of the class.
-        for place, (up, _, term) in enumerate(self.states.told):
-            told.setdefault(self.classes[place], (up, self.stands[place], term))
-        return tuple(list(told.values()))
+        for place, (up, _, term) in enumerate(self.states.known):
+            rows.setdefault(self.classes[place], (up, self.stands[place], term))
+        return tuple(list(rows.values()))
 
     def class_steps(self):
         """For each letter and the classes at its bundles the class that comes, ascending."""

@@ -174,6 +174,7 @@ class HoleTests(TestCase):
                 self.check(right, need_no_filler_paper, lot=lot, number=doors, hole=hole, goal=goal, paper=right)
                 for value in [*wrong_kinds(), 0, (), right[:-1], (*right, right[0]), list(right),
                               (list(right[0]), *right[1:]), ((*right[0], None), *right[1:]),
+                              (right[0][:1], *right[1:]), ((), *right[1:]),
                               ((list(right[0][0]), right[0][1]), *right[1:]), *[(bad, *right[1:]) for bad in wrong_kinds()],
                               *[((bad, None), *right[1:]) for bad in wrong_kinds()],
                               ((tuple(map(bool, right[0][0])), right[0][1]), *right[1:])]:
