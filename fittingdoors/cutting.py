@@ -90,9 +90,9 @@ def hanging(piece):
 
 def look_at_parts(parts):
     """Look at parts that must have few settings and few doors each."""
-    if max([part[1].count("either") for part in parts], default=0) > MOST_EITHER_KNOTS:
+    if any([part[1].count("either") > MOST_EITHER_KNOTS for part in parts]):
         raise TooGreat(MOST_EITHER_KNOTS)
-    if max([part[0] for part in parts], default=0) > MOST_LOT_DOORS:
+    if any([part[0] > MOST_LOT_DOORS for part in parts]):
         raise TooGreat(MOST_LOT_DOORS)
 
 
@@ -109,10 +109,10 @@ def is_sound_by_parts(piece, lines):
     look_at_parts(parts)
     if len(parts) == 1 and parts[0][0] == 0:
         return least_barred(parts[0]) is None
-    if len([part for part in parts if part[0] == 0]) > 0 or len(parts) == 0:
+    if len(parts) == 0 or any([part[0] == 0 for part in parts]):
         return False
     rows = [Leaving(part) for part in parts]
-    if len([row for row in rows if row.bad is not None]) > 0:
+    if any([row.bad is not None for row in rows]):
         return False
     spots = [[spot_of(door, piece[0]) for door in doors] for _, doors, _ in told]
     return come_again([sorted(row.least) for row in rows], spots, list(range(piece[0])))

@@ -33,7 +33,7 @@ def prices(lot, other, number):
     need_lot(lot, number)
     need_lot(other, number)
     goal = turned_lot(other, number)
-    if len([parting for parting in lot if parting not in goal]) > 0:
+    if not all([parting in goal for parting in lot]):
         return ()
     rows = [tuple([parting for place, parting in enumerate(goal) if (bits >> place) & 1 == 1])
             for bits in commons(goal, turned_lot(lot, number))]

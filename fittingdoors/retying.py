@@ -5,26 +5,7 @@ row of the spots that later parts need, as in the sweeps over settings.
 """
 
 from fittingdoors.partings import block_count
-from fittingdoors.sweeps import merged, trimmed
-
-
-def how_many_new(spots, begun):
-    """How many of these spots are not begun yet."""
-    return len([spot for spot in spots if spot not in begun])
-
-
-def near_order(spots):
-    """The numbers of the parts, each time one with as few spots as can be that no part ahead has begun."""
-    told = []
-    begun = {}
-    left = list(range(len(spots)))
-    while len(left) > 0:
-        _, part = min([(how_many_new(spots[one], begun), one) for one in left])
-        told.append(part)
-        left.remove(part)
-        for spot in spots[part]:
-            begun[spot] = True
-    return told
+from fittingdoors.sweeps import merged, near_order, trimmed
 
 
 def row_behind(row, parting, places, needed):

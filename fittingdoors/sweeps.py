@@ -1,6 +1,6 @@
 """All settings of a piece, gone through knot by knot.
 
-What the settings of the first knots leave is kept only as far as later knots, and what is asked
+What the settings of some knots leave is kept only as far as the other knots, and what is asked
 for, can tell it apart: so there are far fewer rows to go on with than settings.
 """
 
@@ -8,20 +8,41 @@ from fittingdoors.frames import frame_of
 from fittingdoors.partings import numbered
 
 
+def how_many_new(spots, begun):
+    """How many of these spots are not begun yet."""
+    return len([spot for spot in spots if spot not in begun])
+
+
+def near_order(rows):
+    """The numbers of these rows of spots, each time one with as few spots as can be that no row ahead has begun."""
+    told = []
+    begun = {}
+    left = list(range(len(rows)))
+    while len(left) > 0:
+        _, number = min([(how_many_new(rows[one], begun), one) for one in left])
+        told.append(number)
+        left.remove(number)
+        for spot in rows[number]:
+            begun[spot] = True
+    return told
+
+
 class Sweep:
     """A walk over the settings of a frame.
 
     A row tells for each clump that is still needed the part in which it is by now: a number from 0
-    on for a part that must still come to a door, one below 0 for any other.
+    on for a part that must still come to a door, one below 0 for any other. A setting is told by
+    its code: its knots as bits, that of the first knot being the greatest.
     """
 
     def __init__(self, frame, needs_doors, keeps_doors):
         self.knots = frame.knots
+        self.order = near_order(frame.knots)
         self.keeps_doors = keeps_doors
         self.bad = None
         self.last_uses = {}
-        for at, heads in enumerate(frame.knots):
-            for head in heads:
+        for at, knot in enumerate(self.order):
+            for head in frame.knots[knot]:
                 self.last_uses[head] = at
         if keeps_doors:
             for head in frame.ends:
@@ -52,41 +73,44 @@ class Sweep:
                 return None
         return tuple([-1 - place if head in with_door else place for head, place in self.places.items()])
 
-    def note_bad(self, prefix):
-        """Note the least setting that begins so; all that begin so are barred."""
-        setting = (*prefix, *[0] * (len(self.knots) - len(prefix)))
-        if self.bad is None or setting < self.bad:
-            self.bad = setting
+    def setting_of(self, code):
+        """The setting with this code; None of None."""
+        many = len(self.knots)
+        return None if code is None else tuple([(code >> (many - 1 - knot)) & 1 for knot in range(many)])
+
+    def note_bad(self, code):
+        """Note that the setting with this code is barred, as are others with more bits."""
+        if self.bad is None or code < self.bad:
+            self.bad = code
 
     def run(self):
-        """The rows behind all knots, each with its least setting and how many settings it has."""
+        """The rows behind all knots, each with the least code of its settings and how many there are."""
         if self.first is None:
-            self.note_bad(())
+            self.note_bad(0)
             return {}
-        rows = {self.first: ((), 1)}
-        for at, heads in enumerate(self.knots):
-            left, right, low = [self.places[head] for head in heads]
+        rows = {self.first: (0, 1)}
+        for at, knot in enumerate(self.order):
+            left, right, low = [self.places[head] for head in self.knots[knot]]
             needed = len([head for head in self.places if self.last_uses[head] > at])
-            rows = self.further(rows, (low, left, right), needed)
+            bit = 1 << (len(self.knots) - 1 - knot)
+            rows = self.further(rows, ((low, left, 0), (low, right, bit)), needed)
         return rows
 
-    def further(self, rows, places, needed):
-        """The rows behind one more knot, by their least settings ascending, without barred ones."""
-        low, left, right = places
+    def further(self, rows, choices, needed):
+        """The rows behind one more knot, without barred ones."""
         told = {}
-        for row, (prefix, count) in rows.items():
+        for row, (least, count) in rows.items():
             # Where only the least barred setting is asked for, none behind it matters.
-            if self.bad is not None and not self.keeps_doors and prefix > self.bad:
-                break
-            for kept, place in ((0, left), (1, right)):
-                new = united(row, low, place, needed)
-                if new is None:
-                    self.note_bad((*prefix, kept))
-                elif new in told:
-                    least, so_far = told[new]
-                    told[new] = (least, so_far + count)
-                else:
-                    told[new] = ((*prefix, kept), count)
+            if self.bad is None or self.keeps_doors or least < self.bad:
+                for low, place, bit in choices:
+                    new = united(row, low, place, needed)
+                    if new is None:
+                        self.note_bad(least | bit)
+                    elif new in told:
+                        other, so_far = told[new]
+                        told[new] = (min(other, least | bit), so_far + count)
+                    else:
+                        told[new] = (least | bit, count)
         return told
 
 
@@ -127,7 +151,7 @@ def least_barred(piece):
     """The least barred setting, or None."""
     sweep = Sweep(frame_of(piece), True, False)
     sweep.run()
-    return sweep.bad
+    return sweep.setting_of(sweep.bad)
 
 
 class Leaving:
@@ -138,12 +162,12 @@ class Leaving:
         frame = frame_of(piece)
         sweep = Sweep(frame, True, True)
         rows = sweep.run()
-        self.bad = sweep.bad
+        self.bad = sweep.setting_of(sweep.bad)
         self.least = {}
         self.counts = {}
-        for row, (setting, count) in rows.items():
+        for row, (least, count) in rows.items():
             parting = numbered([row[sweep.places[head]] for head in frame.ends])
-            self.least[parting] = setting
+            self.least[parting] = sweep.setting_of(least)
             self.counts[parting] = count
 
 

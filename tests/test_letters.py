@@ -5,7 +5,6 @@ import random
 from fittingdoors.errors import BadLetter, BadTerm, NotSound, TooGreat
 from fittingdoors.joining import joined
 from fittingdoors.letters import alphabet_of, need_alphabet, need_term, term_piece
-from fittingdoors.lotting import lot_of
 from fittingdoors.makers import knot_piece, tree_piece
 from fittingdoors.pieces import plain_piece
 from tests import brute
@@ -236,4 +235,3 @@ class RowTests(TestCase):
         for value in [*wrong_kinds(), 0, (), (2,), (0,), (1, (1,))]:
             self.refused(BadTerm, {"path": ()}, term_piece, rows, value)
         self.refused(BadTerm, {"path": (0,)}, term_piece, rows, (0, (0, (1,))))
-        self.check(((0,),), lot_of, tree_piece((0,)))

@@ -1,6 +1,5 @@
 """Point 30: melting, and what stands."""
 
-import itertools
 import random
 
 from fittingdoors.errors import BadNumber, BadParting, BadPiece
