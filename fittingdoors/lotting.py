@@ -46,10 +46,11 @@ def need_sound(piece):
 
 def all_left(piece):
     """All partings that the settings of a piece with doors leave, ascending; NotSound if it is not sound."""
-    leaving = Leaving(piece)
-    if leaving.bad is not None:
-        raise NotSound(leaving.bad)
-    return tuple(sorted(leaving.least))
+    # Of pieces that are not sound the least barred setting is found sooner than all that is left.
+    setting = least_barred(piece)
+    if setting is not None:
+        raise NotSound(setting)
+    return tuple(sorted(Leaving(piece).least))
 
 
 def lot_of(piece):

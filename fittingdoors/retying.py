@@ -5,7 +5,7 @@ row of the spots that later parts need, as in the sweeps over settings.
 """
 
 from fittingdoors.partings import block_count
-from fittingdoors.sweeps import merged, near_order, trimmed
+from fittingdoors.sweeps import merged, short_order, trimmed
 
 
 def row_behind(row, parting, places, needed):
@@ -42,7 +42,7 @@ def come_again(lots, spots, at_doors):
     ties = [spot for part in spots for spot in part if spot not in at_doors]
     if len(at_doors) == 0 and sum([block_count(lot[0]) for lot in lots]) - len(ties) // 2 != 1:
         return False
-    order = near_order(spots)
+    order = short_order(spots)
     last = {spot: at for at, part in enumerate(order) for spot in spots[part]}
     # Those that are needed longest stand first, so that rows are only cut off at their ends.
     longest = [spot for _, spot in sorted([(-at, spot) for spot, at in last.items()])]

@@ -8,22 +8,34 @@ from fittingdoors.frames import frame_of
 from fittingdoors.partings import numbered
 
 
-def how_many_new(spots, begun):
-    """How many of these spots are not begun yet."""
-    return len([spot for spot in spots if spot not in begun])
+def growth(row, uses, begun):
+    """How many more spots are begun, and needed further, behind this row of spots."""
+    told = 0
+    for spot in sorted(set(row)):
+        is_last = uses[spot] == row.count(spot)
+        if is_last and spot in begun:
+            told -= 1
+        if not is_last and spot not in begun:
+            told += 1
+    return told
 
 
-def near_order(rows):
-    """The numbers of these rows of spots, each time one with as few spots as can be that no row ahead has begun."""
+def short_order(rows):
+    """The numbers of these rows of spots in an order in which few spots are begun and needed further."""
+    uses = {}
+    for row in rows:
+        for spot in row:
+            uses[spot] = uses.get(spot, 0) + 1
     told = []
     begun = {}
     left = list(range(len(rows)))
     while len(left) > 0:
-        _, number = min([(how_many_new(rows[one], begun), one) for one in left])
+        _, number = min([(growth(rows[one], uses, begun), one) for one in left])
         told.append(number)
         left.remove(number)
         for spot in rows[number]:
             begun[spot] = True
+            uses[spot] -= 1
     return told
 
 
@@ -37,7 +49,7 @@ class Sweep:
 
     def __init__(self, frame, needs_doors, keeps_doors):
         self.knots = frame.knots
-        self.order = near_order(frame.knots)
+        self.order = short_order(frame.knots)
         self.keeps_doors = keeps_doors
         self.bad = None
         self.last_uses = {}

@@ -6,7 +6,7 @@ import time
 
 from fittingdoors.frames import frame_of
 from fittingdoors.lotting import bad_setting, is_sound, lot_of, need_sound, settings_leaving
-from fittingdoors.sweeps import Leaving, least_barred, rings_with
+from fittingdoors.sweeps import Leaving, least_barred, rings_with, short_order
 from tests import brute
 from tests.brute import TestCase
 
@@ -81,6 +81,31 @@ class SweepTests(TestCase):
                 self.check(right, rings_with, frame_of(piece), blocks)
         loop = (0, ("both",) * 2, (((0, 0), (0, 1)), ((0, 2), (1, 2)), ((1, 0), (1, 1))))
         self.check(True, rings_with, frame_of(loop), [])
+
+    def test_short_order(self):
+        # Links of a chain come one behind the other; what needs nothing of others comes first.
+        self.assertEqual(short_order([(0, 1), (4, 5), (1, 2), (3, 4), (2, 3)]), [0, 2, 4, 3, 1])
+        self.assertEqual(short_order([(0, 1), (2, 2), (1, 0)]), [1, 0, 2])
+        self.assertEqual(short_order([(0, 1, 2), (2, 3, 4), (4, 3, 0), (1, 5), (5, 6), (7,)]), [5, 4, 3, 0, 1, 2])
+        self.assertEqual(short_order([]), [])
+        chance = random.Random(75)
+        for _ in range(50):
+            rows = [[chance.randrange(8) for _ in range(3)] for _ in range(chance.randrange(10))]
+            self.assertEqual(sorted(short_order(rows)), list(range(len(rows))))
+            self.assertEqual(short_order(rows), self.right_order(rows))
+
+    def right_order(self, rows):
+        """Each time the one behind which the fewest spots are begun and stand in some row that is left."""
+        order = []
+        while len(order) < len(rows):
+            costs = []
+            for at in range(len(rows)):
+                if at not in order:
+                    begun = set().union(*[rows[one] for one in [*order, at]])
+                    later = set().union(*[rows[one] for one in range(len(rows)) if one not in order and one != at])
+                    costs.append((len(begun & later), at))
+            order.append(min(costs)[1])
+        return order
 
     def test_few_rows(self):
         # No time is promised; but checks over many pieces with 12 EITHER knots have to come to an end.
