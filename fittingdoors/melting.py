@@ -105,10 +105,8 @@ def stands(piece):
     return ends_in_one(piece)
 
 
-def barred_setting(piece):
-    """A barred setting of a piece without doors, None if it stands."""
-    need_no_doors(piece)
-    melt = melted(piece, [])
+def barred_when_melted(piece, melt):
+    """A setting of a piece that has melted so that is barred with its doors in those blocks, or None."""
     if melt.end() == "one":
         return None
     kept = {knot: 0 for knot in knots_of_sort(piece, "either")}
@@ -122,3 +120,9 @@ def barred_setting(piece):
             further = melt.with_one_kept(knot, 1)
         melt = further
     return tuple(list(kept.values()))
+
+
+def barred_setting(piece):
+    """A barred setting of a piece without doors, None if it stands."""
+    need_no_doors(piece)
+    return barred_when_melted(piece, melted(piece, []))

@@ -6,25 +6,25 @@ from fittingdoors.states import States
 from fittingdoors.terms import meets_goal, need_system
 
 
+def is_standing(state, width, goal):
+    """Whether the terms of a state stand in a system with this width and this goal."""
+    up, lot = state
+    return up == width and lot is not None and meets_goal(lot, goal)
+
+
 class Table:
     """The states of a system, put together to classes of terms that go for one another."""
 
     def __init__(self, system):
         alphabet, self.width, self.goal = system
         self.states = States(alphabet)
-        self.stands = [self.is_standing(state) for state in self.states.known]
-        ups = [up for up, _, _ in self.states.known]
-        self.classes = numbered(list(zip(ups, self.stands)))
+        self.stands = [is_standing(state, self.width, self.goal) for state in self.states.told]
+        self.classes = numbered(list(zip(self.states.ups, self.stands)))
         seats = self.seats()
         finer = self.classes_parted(seats)
         while finer != self.classes:
             self.classes = finer
             finer = self.classes_parted(seats)
-
-    def is_standing(self, state):
-        """Whether the terms of a state stand."""
-        up, lot, _ = state
-        return up == self.width and lot is not None and meets_goal(lot, self.goal)
 
     def seats(self):
         """For each state all that comes when a term of it is put into a bundle of a letter.
@@ -32,7 +32,7 @@ class Table:
         States with the same UP have the same seats, in the same order: the letter, which bundle,
         and the states at the other one.
         """
-        told = [[] for _ in self.states.known]
+        told = [[] for _ in self.states.told]
         for (letter, inner), state in self.states.steps.items():
             for bundle, one in enumerate(inner):
                 told[one].append(((letter, bundle, inner[:bundle], inner[bundle + 1:]), state))
@@ -45,14 +45,14 @@ class Table:
 
     def class_at(self, term):
         """The number of the class of a term."""
-        return self.classes[self.states.state_at(term)]
+        return self.classes[self.states.number_at(term)]
 
     def class_rows(self):
         """For each class its UP, whether its terms stand, and its least term."""
         rows = {}
         # The states come by their least terms; the first one of a class has that of the class.
-        for place, (up, _, term) in enumerate(self.states.known):
-            rows.setdefault(self.classes[place], (up, self.stands[place], term))
+        for place, one in enumerate(self.classes):
+            rows.setdefault(one, (self.states.ups[place], self.stands[place], self.states.terms[place]))
         return tuple(list(rows.values()))
 
     def class_steps(self):

@@ -519,3 +519,110 @@ def random_alphabet(chance, most=5, sound=True):
         told.append(random_letter(chance, up, downs if up + sum(downs) <= 6 else downs[:1], sound))
     chance.shuffle(told)
     return tuple(told)
+
+
+def form_piece(form, doors):
+    """The piece of a form, told from the root up."""
+    sorts = []
+    lines = []
+
+    def hang(part, end):
+        if isinstance(part, int):
+            lines.append((end, (-1, part)))
+            return
+        knot = len(sorts)
+        sorts.append(part[0])
+        lines.append((end, (knot, 2)))
+        hang(part[1], (knot, 0))
+        hang(part[2], (knot, 1))
+
+    sorts.append("either")
+    lines.append(((0, 0), (0, 1)))
+    hang(form, (0, 2))
+    return doors, tuple(sorts), tuple(lines)
+
+
+def random_form(chance, doors):
+    if len(doors) == 1:
+        return doors[0]
+    at = chance.randrange(1, len(doors))
+    return chance.choice(("both", "either")), random_form(chance, doors[:at]), random_form(chance, doors[at:])
+
+
+def doors_of(form):
+    return [form] if isinstance(form, int) else doors_of(form[1]) + doors_of(form[2])
+
+
+def knot_of(form, one, two):
+    """The word of the knot where the ways of two doors meet."""
+    for part in form[1:]:
+        if {one, two} <= set(doors_of(part)):
+            return knot_of(part, one, two)
+    return form[0]
+
+
+def all_forms_of(doors):
+    """All forms of these doors, in every order and with all brackets."""
+    if len(doors) == 1:
+        return [doors[0]]
+    told = []
+    for many in range(1, len(doors)):
+        for some in itertools.combinations(doors, many):
+            rest = [door for door in doors if door not in some]
+            for one, two in itertools.product(all_forms_of(list(some)), all_forms_of(rest)):
+                told += [("both", one, two), ("either", one, two)]
+    return told
+
+
+def form_lot(form):
+    """The lot of a form from the leaves up: pairs of blocks and of a root block."""
+    def pairs(part):
+        if isinstance(part, int):
+            return {(frozenset([frozenset([part])]), frozenset([part]))}
+        told = set()
+        for (one, root), (two, other) in itertools.product(pairs(part[1]), pairs(part[2])):
+            if part[0] == "both":
+                told.add(((one | two) - {root, other} | {root | other}, root | other))
+            else:
+                told |= {(one | two, root), (one | two, other)}
+        return told
+
+    many = len(doors_of(form))
+    return tuple(sorted({parting([[door in block for block in blocks].index(True) for door in range(many)])
+                         for blocks in [list(row) for row, _ in pairs(form)]}))
+
+
+def dual(form):
+    if isinstance(form, int):
+        return form
+    return "either" if form[0] == "both" else "both", dual(form[1]), dual(form[2])
+
+
+def knot_words(form):
+    """For each two doors, the lesser one first, the word of their knot."""
+    doors = sorted(doors_of(form))
+    return {pair: knot_of(form, *pair) for pair in itertools.combinations(doors, 2)}
+
+
+def steps_of(form, path=()):
+    """All that comes of a form by one step, behind its path and its word."""
+    if isinstance(form, int):
+        return []
+    word, one, two = form
+    told = [(path, "turn", (word, two, one))]
+    if not isinstance(two, int) and two[0] == word:
+        told.append((path, "left", (word, (word, one, two[1]), two[2])))
+    if not isinstance(one, int) and one[0] == word:
+        told.append((path, "right", (word, one[1], (word, one[2], two))))
+    if word == "both" and not isinstance(two, int) and two[0] == "either":
+        told.append((path, "pass", ("either", ("both", one, two[1]), two[2])))
+    told += [(way, name, (word, part, two)) for way, name, part in steps_of(one, path + (1,))]
+    return told + [(way, name, (word, one, part)) for way, name, part in steps_of(two, path + (2,))]
+
+
+def deep_form(doors, word="both", side=1):
+    """A form of doors one within the other, the last one outermost."""
+    told = 0
+    for door in range(1, doors):
+        told = (word, told, door) if side == 1 else (word, door, told)
+    return told

@@ -3,11 +3,13 @@
 import copy
 import itertools
 
-from fittingdoors import (alike, besides, between, chains, cutting, finer, finishing, glueing, halves, holes, joining,
-                          letters, lots, lotting, makers, meeters, meeting, melting, order, origins, partings, pieces,
-                          prices, routes, selecting, settings, shifting, states, tables, terms, together, turning, tying)
-from fittingdoors.errors import (BadDoor, BadLetter, BadLot, BadName, BadNumber, BadParting, BadPiece, BadSetting,
-                                 BadTerm, BadTies, NotSound, TooGreat)
+from fittingdoors import (alike, always, besides, between, chains, compared, counted, cutting, finer, finishing,
+                          formcounts, formlots, forms, glueing, halves, holes, inbetween, joining, letters, loosening,
+                          lots, lotting, makers, meeters, meeting, melting, order, origins, partings, pieces, prices,
+                          routes, selecting, settings, shifting, states, tables, terms, together, toldback, turning,
+                          tying)
+from fittingdoors.errors import (BadDoor, BadForm, BadLetter, BadLot, BadName, BadNumber, BadParting, BadPiece,
+                                 BadSetting, BadTerm, BadTies, NotSound, TooGreat)
 from tests.brute import GREAT, TestCase
 
 ROW = (0, 0, 1)
@@ -72,6 +74,15 @@ TERM = ("term", (0, (1,)), [(None, BadTerm, {"path": ()}), ((0, (0, (1,))), BadT
 SYSTEM = ("system", (ALPHABET[1], 2, ((0, 0),)), [
     (None, BadLetter, {"number": None}), ((NO_ALPHABET[1][0], None, None), BadLetter, {"number": 1}),
     ((ALPHABET[1], 6, None), BadNumber, {"value": 6}), ((ALPHABET[1], 2, ()), BadLot, {"word": "empty"})])
+STANDING = ((2, (1,), ((0, 0, 0),)), (1, (), ((0,),)))
+OTHER_SYSTEM = ("other", SYSTEM[1], SYSTEM[2] + [(((ONE_LETTER,), 2, ((0, 0),)), BadLetter, {"number": None}), (
+    ((ONE_LETTER, (2, (), ((0, 1),))), 2, ((0, 0),)), BadLetter, {"number": 1})])
+LETTERS = ("number", 2, [(41, BadNumber, {"value": 41}), (None, BadNumber, {"value": None})])
+FORM = ("form", ("both", 0, ("either", 1, 2)), [
+    (None, BadForm, {"path": ()}), (("both", 0, ("either", 1, 1)), BadForm, {"path": (2, 2)}),
+    (("both", 0, ("either", 1, 3)), BadForm, {"path": ()})])
+OTHER_FORM = ("other", ("either", 0, ("either", 1, 2)), FORM[2] + [(0, BadNumber, {"value": 1})])
+TWO_MANY = ("number", 3, [(value, BadNumber, {"value": value}) for value in (None, 0, 6, GREAT)])
 
 # The functions with their arguments; the last thing tells the order in which they are looked at,
 # where it is another than their own.
@@ -141,6 +152,22 @@ CALLS = [
     (terms.term_lot, [ALPHABET, TERM]), (terms.gains, [ALPHABET]), (terms.need_system, [SYSTEM]),
     (terms.term_stands, [SYSTEM, TERM]), (states.all_states, [ALPHABET]), (states.state_of, [ALPHABET, TERM]),
     (tables.least_table, [SYSTEM]), (tables.class_of, [SYSTEM, TERM]),
+    (always.least_standing, [SYSTEM]), (always.least_fallen, [SYSTEM]), (always.greatest_standing, [SYSTEM]),
+    (always.all_closers, [ALPHABET, ("width", 2, [(0, BadNumber, {"value": 0}), (6, BadNumber, {"value": 6})])]),
+    (compared.parted_by, [SYSTEM, OTHER_SYSTEM]), (compared.letters_alike, [SYSTEM]),
+    (counted.standing_counted, [SYSTEM, LETTERS]), (counted.standing_place, [SYSTEM, TERM]),
+    (counted.standing_term, [(SYSTEM[0], (STANDING, 2, ((0, 1),)), SYSTEM[2]), LETTERS, ("place", 0, NO_NUMBER)]),
+    (forms.leaves, [FORM]), (forms.dual, [FORM]), (forms.plain, [FORM]), (forms.web, [FORM]), (forms.form_piece, [FORM]),
+    (forms.is_same, [FORM, ("other", 0, FORM[2])]),
+    (forms.step, [FORM, ("path", (2,), [(None, BadForm, {"path": None}), ((1,), BadForm, {"path": (1,)})]),
+                  ("word", "turn", [(None, BadName, {"name": None})])], ("form", "word", "path")),
+    (formcounts.form_count, [("number", 3, [(41, BadNumber, {"value": 41})])]),
+    (formcounts.all_forms, [("number", 3, [(6, BadNumber, {"value": 6})])]),
+    (formlots.form_lot_size, [FORM]), (formlots.form_parting, [FORM, ("place", 1, NO_NUMBER)]),
+    (formlots.form_place, [FORM, OF_PIECE]), (formlots.unmet, [FORM, OF_PIECE]),
+    (toldback.form_of_lot, [LOT, MANY], ("number", "lot")), (toldback.form_alike, [LOT, MANY], ("number", "lot")),
+    (loosening.is_looser, [FORM, OTHER_FORM]), (loosening.loosened, [FORM, OTHER_FORM]),
+    (inbetween.forms_between, [LOT, OTHER_LOT, TWO_MANY], ("number", "lot", "other")),
 ]
 
 

@@ -45,6 +45,15 @@ LISTED = {
     "terms": "term_lot(alphabet,term) gains(alphabet) need_system(system) term_stands(system,term)",
     "states": "all_states(alphabet) state_of(alphabet,term)",
     "tables": "least_table(system) class_of(system,term)",
+    "always": "least_standing(system) least_fallen(system) all_closers(alphabet,width) greatest_standing(system)",
+    "compared": "parted_by(system,other) letters_alike(system)",
+    "counted": "standing_counted(system,number) standing_term(system,number,place) standing_place(system,term)",
+    "forms": "leaves(form) dual(form) plain(form) web(form) is_same(form,other) step(form,path,word) form_piece(form)",
+    "formcounts": "form_count(number) all_forms(number)",
+    "formlots": "form_lot_size(form) form_parting(form,place) form_place(form,parting) unmet(form,parting)",
+    "toldback": "form_of_lot(lot,number) form_alike(lot,number)",
+    "loosening": "is_looser(form,other) loosened(form,other)",
+    "inbetween": "forms_between(lot,other,number)",
 }
 
 

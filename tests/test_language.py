@@ -132,6 +132,12 @@ class LanguageTests(unittest.TestCase):
                     for sign, side in zip(node.ops, node.comparators):
                         if isinstance(sign, (ast.Is, ast.IsNot)):
                             self.assertIsInstance(side, ast.Constant, (name, node.lineno))
+                if isinstance(node, ast.Call) and getattr(node.func, "id", "") in LIBRARY["itertools"]:
+                    self.assertFalse([arg for arg in node.args if isinstance(arg, ast.Starred)], (name, node.lineno))
+                if isinstance(node, ast.Call):
+                    for arg in node.args:
+                        self.assertFalse(isinstance(arg, ast.Starred)
+                                         and not isinstance(arg.value, (ast.Name, ast.Attribute)), (name, node.lineno))
                 if isinstance(node, ast.Raise):
                     self.assertIsInstance(node.exc, ast.Call, (name, node.lineno))
 

@@ -6,47 +6,7 @@ import random
 from fittingdoors.errors import BadLot, BadNumber
 from fittingdoors.together import doors_joined
 from tests import brute
-from tests.brute import TestCase, all_of, wrong_kinds
-
-
-def form_piece(form, doors):
-    """The piece of a form, told from the root up."""
-    sorts = []
-    lines = []
-
-    def hang(part, end):
-        if isinstance(part, int):
-            lines.append((end, (-1, part)))
-            return
-        knot = len(sorts)
-        sorts.append(part[0])
-        lines.append((end, (knot, 2)))
-        hang(part[1], (knot, 0))
-        hang(part[2], (knot, 1))
-
-    sorts.append("either")
-    lines.append(((0, 0), (0, 1)))
-    hang(form, (0, 2))
-    return doors, tuple(sorts), tuple(lines)
-
-
-def random_form(chance, doors):
-    if len(doors) == 1:
-        return doors[0]
-    at = chance.randrange(1, len(doors))
-    return chance.choice(("both", "either")), random_form(chance, doors[:at]), random_form(chance, doors[at:])
-
-
-def doors_of(form):
-    return [form] if isinstance(form, int) else doors_of(form[1]) + doors_of(form[2])
-
-
-def knot_of(form, one, two):
-    """The word of the knot where the ways of two doors meet."""
-    for part in form[1:]:
-        if {one, two} <= set(doors_of(part)):
-            return knot_of(part, one, two)
-    return form[0]
+from tests.brute import TestCase, all_of, form_piece, knot_of, random_form, wrong_kinds
 
 
 class TogetherTests(TestCase):
