@@ -35,8 +35,8 @@ class Hole:
         need_lot(lot, number)
         need_hole(hole, number)
         need_goal(goal, number - len(hole))
-        self.lot = lot
-        self.doors = len(hole)
+        self.partings = lot
+        self.many_doors = len(hole)
         self.ties = moved_ties([(door, place) for place, door in enumerate(hole)], number)
         self.left = doors_left(number + len(hole), self.ties)
         # What is glued reaches the goal exactly if it meets all of these in a tree.
@@ -48,7 +48,7 @@ class Hole:
 
     def is_filler(self, filler):
         """Whether a parting at the hole reaches the goal with each one of the lot."""
-        for parting in self.lot:
+        for parting in self.partings:
             told = self.glued_with(parting, filler)
             if told is None or not meets_all(told, self.guards):
                 return False
@@ -56,11 +56,11 @@ class Hole:
 
     def fillers(self):
         """All partings that fill the hole, ascending."""
-        return tuple([filler for filler in partings_of_doors(self.doors) if self.is_filler(filler)])
+        return tuple([filler for filler in partings_of_doors(self.many_doors) if self.is_filler(filler)])
 
     def shown(self, filler):
         """A pair that shows that a parting fills nothing, None if it fills the hole."""
-        for parting in self.lot:
+        for parting in self.partings:
             told = self.glued_with(parting, filler)
             if told is None:
                 return parting, None
@@ -74,7 +74,7 @@ class Hole:
         if not is_tuple_within(pair, 2, 2):
             return False
         parting, guard = pair
-        if not is_parting(parting) or parting not in self.lot:
+        if not is_parting(parting) or parting not in self.partings:
             return False
         told = self.glued_with(parting, filler)
         if told is None or guard is None:

@@ -5,6 +5,8 @@ import builtins
 import pathlib
 import unittest
 
+from fittingdoors import errors
+
 FOLDER = pathlib.Path(__file__).resolve().parent.parent / "fittingdoors"
 BUILTINS = set("len range enumerate zip min max sum abs sorted reversed int str bool bytes list tuple dict set isinstance "
                "ord repr any all divmod super Exception ValueError TypeError KeyError IndexError map".split())
@@ -119,11 +121,16 @@ class LanguageTests(unittest.TestCase):
                     self.assertTrue(node.name == "__init__" or not node.name.startswith("__"))
 
     def test_statements_and_expressions(self):
-        barred = (ast.Global, ast.AsyncFunctionDef, ast.Await, ast.Div, ast.JoinedStr, ast.Yield, ast.YieldFrom, ast.Try,
+        barred = (ast.Global, ast.AsyncFunctionDef, ast.Await, ast.Div, ast.JoinedStr, ast.Yield, ast.YieldFrom,
                   ast.With, ast.Match, ast.NamedExpr, ast.Lambda, ast.Nonlocal, ast.MatMult, ast.Pow, ast.AnnAssign)
         for name, tree in trees().items():
             for node in ast.walk(tree):
                 self.assertNotIsInstance(node, barred, (name, getattr(node, "lineno", 0)))
+                if isinstance(node, ast.Try):
+                    # Only errors of the package are caught.
+                    self.assertEqual(node.finalbody, [])
+                    for handler in node.handlers:
+                        self.assertTrue(hasattr(errors, handler.type.id), (name, node.lineno))
                 if isinstance(node, ast.Constant):
                     self.assertNotIsInstance(node.value, (float, complex))
                     if isinstance(node.value, str):

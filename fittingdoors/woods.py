@@ -1,0 +1,75 @@
+"""Pieces in woods: no ring is allowed, but parts are."""
+
+from fittingdoors.errors import BadNumber, NotSound
+from fittingdoors.frames import frame_of
+from fittingdoors.lots import need_lot
+from fittingdoors.lotting import need_few_doors, need_few_settings
+from fittingdoors.meeting import has_no_ring
+from fittingdoors.partings import numbered, partings_of_doors
+from fittingdoors.pieces import need_piece
+from fittingdoors.settings import need_setting
+from fittingdoors.sweeps import Sweep
+
+
+def wood_left_by(piece, setting):
+    """How a setting parts the doors, () without doors, None if it leaves a ring."""
+    need_piece(piece)
+    need_setting(piece, setting)
+    frame = frame_of(piece)
+    clumps = frame.joined_by(setting)
+    return None if clumps is None else numbered([clumps.head(line) for line in frame.ends])
+
+
+def ringing_setting(piece):
+    """The least setting that leaves a ring, or None."""
+    need_few_settings(piece)
+    sweep = Sweep(frame_of(piece), False, False)
+    sweep.run()
+    return sweep.setting_of(sweep.bad)
+
+
+def wood_lot(piece):
+    """The wood lot of a piece with 1 to 6 doors."""
+    need_few_doors(piece)
+    frame = frame_of(piece)
+    sweep = Sweep(frame, False, True)
+    rows = sweep.run()
+    if sweep.bad is not None:
+        raise NotSound(sweep.setting_of(sweep.bad))
+    told = {numbered([row[sweep.places[head]] for head in frame.ends]): True for row in rows}
+    return tuple(sorted(told))
+
+
+def meets_all_in_wood(parting, lot):
+    """Whether a parting meets each one of a lot in a wood."""
+    for other in lot:
+        if not has_no_ring(parting, other):
+            return False
+    return True
+
+
+def turned_in_wood(lot, number):
+    """All partings that meet each of what is known to be a lot in a wood."""
+    return tuple([parting for parting in partings_of_doors(number) if meets_all_in_wood(parting, lot)])
+
+
+def wood_turned(lot, number):
+    """All partings that meet each of a lot in a wood."""
+    return turned_in_wood(need_lot(lot, number), number)
+
+
+def wood_closed(lot, number):
+    """The lot, turned twice in woods."""
+    return turned_in_wood(turned_in_wood(need_lot(lot, number), number), number)
+
+
+def wood_parted(piece, other):
+    """The least parting that meets in a wood all of just one of two wood lots, or None."""
+    lot = wood_lot(piece)
+    other_lot = wood_lot(other)
+    if piece[0] != other[0]:
+        raise BadNumber(other[0])
+    for parting in partings_of_doors(piece[0]):
+        if meets_all_in_wood(parting, lot) != meets_all_in_wood(parting, other_lot):
+            return parting
+    return None
