@@ -4,12 +4,12 @@ import copy
 import itertools
 
 from fittingdoors import (alike, always, besides, between, chains, compared, counted, cutting, finer, finishing,
-                          formcounts, formlots, forms, glueing, halves, holes, inbetween, joining, letters, loosening,
-                          lots, lotting, makers, meeters, meeting, melting, order, origins, partings, pieces, prices,
-                          routes, selecting, settings, shifting, states, tables, terms, together, toldback, turning,
-                          tying)
+                          formcounts, formlots, forms, glueing, halves, holes, inbetween, joining, lettering, letters,
+                          logs, loosening, lots, lotting, makers, meeters, meeting, melting, order, origins, parsing,
+                          partings, pieces, prices, routes, selecting, settings, sheets, shifting, states, tables, terms,
+                          texts, together, toldback, turning, tying, vanishing, wirings, woods)
 from fittingdoors.errors import (BadDoor, BadForm, BadLetter, BadLot, BadName, BadNumber, BadParting, BadPiece,
-                                 BadSetting, BadTerm, BadTies, NotSound, TooGreat)
+                                 BadSetting, BadTerm, BadText, BadTies, NotSound, TooGreat)
 from tests.brute import GREAT, TestCase
 
 ROW = (0, 0, 1)
@@ -83,6 +83,21 @@ FORM = ("form", ("both", 0, ("either", 1, 2)), [
     (("both", 0, ("either", 1, 3)), BadForm, {"path": ()})])
 OTHER_FORM = ("other", ("either", 0, ("either", 1, 2)), FORM[2] + [(0, BadNumber, {"value": 1})])
 TWO_MANY = ("number", 3, [(value, BadNumber, {"value": value}) for value in (None, 0, 6, GREAT)])
+PAIR = (4, ("both", "either"), (((-1, 0), (0, 0)), ((-1, 1), (0, 1)), ((-1, 2), (1, 0)), ((-1, 3), (1, 1)),
+                                ((0, 2), (1, 2))))
+WIRING = ("wiring", (1, 0), [(None, BadDoor, {"door": None}), ((1, 1), BadDoor, {"door": 1}),
+                             ((1, 2, 0), BadDoor, {"door": 0})])
+OTHER_WIRING = ("other", (1, 0), WIRING[2] + [((), BadNumber, {"value": 0})])
+WOODEN = ("piece", EITHER, FEW_DOORS[2] + [(BARRED, NotSound, {"setting": (1,)})])
+OTHER_WOODEN = ("other", EITHER, WOODEN[2] + SECOND_DOORS[2][-1:])
+
+
+def text_of(right, bad):
+    """A text, and others of which the first character that can't be read is told, and which is none."""
+    return "text", right, [(None, BadText, {"line": None, "column": None})] + bad
+
+
+UNREAD = [("x", BadText, {"line": 0, "column": 0}), ("", BadText, {"line": 0, "column": 0})]
 
 # The functions with their arguments; the last thing tells the order in which they are looked at,
 # where it is another than their own.
@@ -168,6 +183,23 @@ CALLS = [
     (toldback.form_of_lot, [LOT, MANY], ("number", "lot")), (toldback.form_alike, [LOT, MANY], ("number", "lot")),
     (loosening.is_looser, [FORM, OTHER_FORM]), (loosening.loosened, [FORM, OTHER_FORM]),
     (inbetween.forms_between, [LOT, OTHER_LOT, TWO_MANY], ("number", "lot", "other")),
+    (vanishing.vanishing_pairs, [PIECE]), (vanishing.clashing_pairs, [PIECE]), (vanishing.vanished, [PIECE]),
+    (vanishing.vanishings, [PIECE]), (vanishing.vanished_pair, [("piece", PAIR, NO_PIECE), ("knot", 0, NO_NUMBER)]),
+    (wirings.need_wiring, [WIRING]), (wirings.wiring_piece, [WIRING]), (wirings.wirings_joined, [WIRING, OTHER_WIRING]),
+    (wirings.wiring_of, [("piece", EMPTY, NO_PIECE + [(EITHER, BadPiece, {"word": "knots", "place": 0})])]),
+    (wirings.wiring_power, [WIRING, ("number", 7, NO_NUMBER)]), (wirings.ring_loops, [WIRING, ("number", 7, NO_NUMBER)]),
+    (woods.wood_left_by, [PIECE, SETTING]), (woods.ringing_setting, [FEW]), (woods.wood_lot, [WOODEN]),
+    (woods.wood_turned, [LOT, MANY], ("number", "lot")), (woods.wood_closed, [LOT, MANY], ("number", "lot")),
+    (woods.wood_parted, [WOODEN, OTHER_WOODEN]),
+    (lettering.is_name, [("value", "a", [])]),
+    (texts.parting_text, [PARTING]), (texts.lot_text, [LOT, MANY], ("number", "lot")), (texts.piece_text, [PIECE]),
+    (texts.form_text, [FORM]),
+    (parsing.parse_parting, [text_of("0 1", UNREAD + [("0 2", BadParting, {"place": 1})])]),
+    (parsing.parse_lot, [text_of("2\n0 1", UNREAD + [("2\n0 2", BadLot, {"word": "parting"})])]),
+    (parsing.parse_piece, [text_of("0", UNREAD + [("1", BadPiece, {"word": "ends", "place": None})])]),
+    (parsing.parse_form, [text_of("(0 * 1)", UNREAD + [("(0 * 0)", BadForm, {"path": (2,)})])]),
+    (sheets.judged, [text_of("stands a", UNREAD + [("lot a\n- 1\nlot a\n- 1\nstands a", BadName, {"name": "a"})])]),
+    (sheets.sheet_entries, [text_of("lot a\n- 1\nstands a", UNREAD)]),
 ]
 
 
@@ -189,3 +221,13 @@ class ArgumentTests(TestCase):
                     self.assertEqual(call(*values), call(**dict(zip(names, values))))
                     self.assertEqual(call(*values), call(*values))
                 self.assertEqual(values, kept)
+
+    def test_logs(self):
+        # What is read is equal to itself alone, so two calls tell benches with the same deeds.
+        for text, error, fields in text_of("next 1", UNREAD + [("next 402", BadNumber, {"value": 402})])[2]:
+            self.refused(error, fields, logs.read_log, text)
+            self.refused(error, fields, logs.read_log, text=text)
+        text = "next 3\nput 1\n- 2\n- d0 d1\ntie 2 1.0 1.1"
+        one, two = logs.read_log(text), logs.read_log(text=text)
+        self.assertEqual((one.deeds(), one.next_number()), (two.deeds(), two.next_number()))
+        self.assertEqual(logs.log_text(one), logs.log_text(bench=two))

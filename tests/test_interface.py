@@ -3,6 +3,7 @@
 import importlib
 import inspect
 
+from fittingdoors.benches import Bench
 from tests.brute import TestCase
 
 # The functions that have landed, each with its parameters, as the document lists them.
@@ -54,6 +55,16 @@ LISTED = {
     "toldback": "form_of_lot(lot,number) form_alike(lot,number)",
     "loosening": "is_looser(form,other) loosened(form,other)",
     "inbetween": "forms_between(lot,other,number)",
+    "vanishing": "vanishing_pairs(piece) clashing_pairs(piece) vanished_pair(piece,knot) vanished(piece) vanishings(piece)",
+    "wirings": "need_wiring(wiring) wiring_of(piece) wiring_piece(wiring) wirings_joined(wiring,other) "
+               "wiring_power(wiring,number) ring_loops(wiring,number)",
+    "woods": "wood_left_by(piece,setting) ringing_setting(piece) wood_lot(piece) wood_turned(lot,number) "
+             "wood_closed(lot,number) wood_parted(piece,other)",
+    "lettering": "is_name(value)",
+    "texts": "parting_text(parting) lot_text(lot,number) piece_text(piece) form_text(form)",
+    "parsing": "parse_parting(text) parse_lot(text) parse_piece(text) parse_form(text)",
+    "logs": "log_text(bench) read_log(text)",
+    "sheets": "sheet_entries(text) judged(text)",
 }
 
 
@@ -67,3 +78,17 @@ class InterfaceTests(TestCase):
                 self.assertTrue(inspect.isfunction(function), text)
                 self.assertEqual(function.__module__, module.__name__)
                 self.assertEqual(",".join(inspect.signature(function).parameters), parameters)
+
+    def test_bench(self):
+        listed = ("next_number() put(piece) tie(tag,other) back(number) doors() deeds() mate(tag) whole() lot() finishes() "
+                  "ties_left() twin()")
+        self.assertEqual(Bench.__module__, "fittingdoors.benches")
+        self.assertEqual(list(inspect.signature(Bench).parameters), [])
+        for text in listed.split():
+            word, parameters = text[:-1].split("(")
+            self.assertTrue(inspect.isfunction(vars(Bench)[word]), text)
+            self.assertEqual(",".join(list(inspect.signature(vars(Bench)[word]).parameters)[1:]), parameters)
+
+    def test_all_modules_have_landed(self):
+        # The headings of the interface, with its errors and its benches.
+        self.assertEqual(len(LISTED) + 2, 52)
