@@ -1,14 +1,15 @@
 """Pieces that lie on a bench, and their doors that are tied, put and taken back live."""
 
 from fittingdoors.errors import BadDoor, BadNumber, TooGreat
+from fittingdoors.frames import frame_of
 from fittingdoors.glueing import doors_left, glue_all, join_lots, moved_ties
 from fittingdoors.joining import moved_end, tied_up
 from fittingdoors.kinds import is_integer, is_tuple_within
 from fittingdoors.lots import MOST_LOT_DOORS
-from fittingdoors.lotting import MOST_EITHER_KNOTS
+from fittingdoors.lotting import look_at_settings
 from fittingdoors.melting import ends_in_one
-from fittingdoors.pieces import MOST_KNOTS, knots_of_sort, need_piece
-from fittingdoors.sweeps import Leaving
+from fittingdoors.pieces import MOST_KNOTS, need_piece
+from fittingdoors.sweeps import partings_left
 
 MOST_DEEDS = 400
 
@@ -144,8 +145,7 @@ class Bench:
     def need_lots(self):
         """Look whether the lot of the whole can be told by those of the pieces."""
         for piece in self.pieces.values():
-            if len(knots_of_sort(piece, "either")) > MOST_EITHER_KNOTS:
-                raise TooGreat(MOST_EITHER_KNOTS)
+            look_at_settings(piece)
         many = 0
         for number in sorted(self.pieces):
             doors = self.pieces[number][0]
@@ -161,8 +161,9 @@ class Bench:
         piece = self.pieces[number]
         ties = [(one[1], two[1]) for one, two in self.ties_up_to(number) if one[0] == number]
         left = doors_left(piece[0], ties)
-        leaving = Leaving(piece)
-        lot = glue_all(sorted(leaving.least), ties, left) if leaving.bad is None else None
+        lot = partings_left(frame_of(piece), True)
+        if lot is not None:
+            lot = glue_all(lot, ties, left)
         return lot, [(number, door) for door in left]
 
     def with_piece(self, told, number):

@@ -17,6 +17,8 @@ class Frame:
         self.has_ring = has_ring
         self.knots = [[clumps.head(line) for line in lines] for lines in knots]
         self.ends = [clumps.head(line) for line in ends]
+        # The order in which the sweeps go through the knots, when one has been chosen.
+        self.order = None
 
     def all_heads(self):
         """The heads of all clumps."""

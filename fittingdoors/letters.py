@@ -1,11 +1,11 @@
 """Letters, alphabets, and terms of letters."""
 
 from fittingdoors.errors import BadLetter, BadTerm
-from fittingdoors.joining import joined
 from fittingdoors.kinds import is_integer_within, is_tuple_within
 from fittingdoors.lots import MOST_LOT_DOORS, lot_fault
-from fittingdoors.lotting import all_left, need_few_settings
-from fittingdoors.pieces import is_piece, plain_piece
+from fittingdoors.lotting import all_left, look_at_settings
+from fittingdoors.pieces import is_piece
+from fittingdoors.termpieces import piece_of_term
 
 MOST_LETTERS = 6
 MOST_WIDTH = 5
@@ -101,19 +101,9 @@ def alphabet_of(rows):
     look_at_rows(rows)
     told = []
     for up, downs, piece in rows:
-        need_few_settings(piece)
+        look_at_settings(piece)
         told.append((up, tuple(downs), all_left(piece)))
     return tuple(told)
-
-
-def piece_of_term(rows, term):
-    """The piece of what is known to be a term."""
-    up, downs, piece = rows[term[0]]
-    told = plain_piece(piece)
-    for width, inner in zip(downs, term[1:]):
-        # The bundle ahead is tied by now, so each bundle comes to stand next to the UP doors.
-        told = joined(told, piece_of_term(rows, inner), tuple([(up + door, door) for door in range(width)]))
-    return told
 
 
 def term_piece(rows, term):

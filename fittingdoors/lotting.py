@@ -1,19 +1,25 @@
 """Whether a piece is sound, and which partings its settings leave."""
 
 from fittingdoors.errors import NotSound, TooGreat
+from fittingdoors.frames import frame_of
 from fittingdoors.lots import MOST_LOT_DOORS
 from fittingdoors.partings import need_parting
-from fittingdoors.pieces import knots_of_sort, need_piece
-from fittingdoors.sweeps import Leaving, least_barred
+from fittingdoors.pieces import need_piece
+from fittingdoors.sweeps import Leaving, least_barred, least_barred_of, partings_left
 
 MOST_EITHER_KNOTS = 12
+
+
+def look_at_settings(piece):
+    """Look whether what is known to be a piece has few settings."""
+    if piece[1].count("either") > MOST_EITHER_KNOTS:
+        raise TooGreat(MOST_EITHER_KNOTS)
 
 
 def need_few_settings(piece):
     """Look at a piece all settings of which are to be gone through."""
     need_piece(piece)
-    if len(knots_of_sort(piece, "either")) > MOST_EITHER_KNOTS:
-        raise TooGreat(MOST_EITHER_KNOTS)
+    look_at_settings(piece)
 
 
 def need_few_doors(piece):
@@ -46,11 +52,11 @@ def need_sound(piece):
 
 def all_left(piece):
     """All partings that the settings of a piece with doors leave, ascending; NotSound if it is not sound."""
-    # Of pieces that are not sound the least barred setting is found sooner than all that is left.
-    setting = least_barred(piece)
-    if setting is not None:
-        raise NotSound(setting)
-    return tuple(sorted(Leaving(piece).least))
+    frame = frame_of(piece)
+    told = partings_left(frame, True)
+    if told is None:
+        raise NotSound(least_barred_of(frame))
+    return told
 
 
 def lot_of(piece):

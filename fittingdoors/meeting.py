@@ -1,6 +1,5 @@
 """How two partings meet: in a tree, in a wood, and with which ring."""
 
-from fittingdoors.clumps import Clumps
 from fittingdoors.kinds import is_integer_within
 from fittingdoors.partings import block_count, need_two_partings
 
@@ -8,10 +7,17 @@ from fittingdoors.partings import block_count, need_two_partings
 def has_no_ring(parting, other):
     """Whether two partings with equally many doors have no ring."""
     many = block_count(parting)
-    clumps = Clumps(many + block_count(other))
+    # What clumps tells elsewhere is written out: no question is asked more often.
+    heads = list(range(many + block_count(other)))
     for low, high in zip(parting, other):
-        if not clumps.unite(low, many + high):
+        high += many
+        while heads[low] != low:
+            low = heads[low]
+        while heads[high] != high:
+            high = heads[high]
+        if low == high:
             return False
+        heads[high] = low
     return True
 
 

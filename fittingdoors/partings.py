@@ -97,6 +97,17 @@ def partings_of_doors(doors):
     return tuple(rows)
 
 
+def partings_into(doors, blocks):
+    """All partings of so many doors with so many blocks, ascending, for a number that is known to be small."""
+    rows = [((0,), 1)]
+    for door in range(1, doors):
+        # Each door that is left can bring one block more.
+        least = blocks - (doors - 1 - door)
+        rows = [((*row, block), max(many, block + 1)) for row, many in rows
+                for block in range(min(many + 1, blocks)) if max(many, block + 1) >= least]
+    return tuple([row for row, _ in rows])
+
+
 def all_partings(number):
     """All partings of so many doors, ascending."""
     if not is_integer_within(number, 1, MOST_DOORS):

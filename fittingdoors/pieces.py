@@ -15,11 +15,15 @@ def is_sort(value):
 
 def is_end(value, doors, knots):
     """Whether a value is an end of a piece with so many doors and knots."""
-    if not is_tuple_within(value, 2, 2) or not is_integer_within(value[0], -1, knots - 1):
+    # Pieces have many ends: what kinds tells elsewhere is written out here.
+    if not isinstance(value, tuple) or len(value) != 2:
         return False
-    if value[0] == -1:
-        return is_integer_within(value[1], 0, doors - 1)
-    return is_integer_within(value[1], 0, 2)
+    knot, place = value
+    if not isinstance(knot, int) or not isinstance(place, int) or isinstance(knot, bool) or isinstance(place, bool):
+        return False
+    if knot == -1:
+        return 0 <= place < doors
+    return 0 <= knot < knots and 0 <= place <= 2
 
 
 def has_form(value):
@@ -36,7 +40,7 @@ def first_wrong_line(doors, knots, lines):
     """The place of the first thing that is no line, or has an end of a line ahead, or None."""
     seen = set()
     for place, line in enumerate(lines):
-        if not is_tuple_within(line, 2, 2):
+        if not isinstance(line, tuple) or len(line) != 2:
             return place
         for end in line:
             if not is_end(end, doors, knots) or end in seen:
@@ -77,7 +81,7 @@ def need_piece(piece):
 
 def plain_lines(lines):
     """The lines ascending, each with its lesser end first."""
-    return tuple(sorted([(min(line), max(line)) for line in lines]))
+    return tuple(sorted([(one, two) if one < two else (two, one) for one, two in lines]))
 
 
 def plain_piece(piece):

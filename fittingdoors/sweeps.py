@@ -8,35 +8,51 @@ from fittingdoors.frames import frame_of
 from fittingdoors.partings import numbered
 
 
-def growth(row, uses, begun):
-    """How many more spots are begun, and needed further, behind this row of spots."""
+def times_of(row):
+    """For each spot of a row how often it stands there, as pairs."""
+    told = {}
+    for spot in row:
+        told[spot] = told.get(spot, 0) + 1
+    return list(told.items())
+
+
+def growth(times, uses, begun):
+    """How many more spots are begun, and needed further, behind a row with these spots."""
     told = 0
-    for spot in sorted(set(row)):
-        is_last = uses[spot] == row.count(spot)
-        if is_last and spot in begun:
-            told -= 1
-        if not is_last and spot not in begun:
+    for spot, many in times:
+        if uses[spot] == many:
+            if spot in begun:
+                told -= 1
+        elif spot not in begun:
             told += 1
     return told
 
 
 def short_order(rows):
     """The numbers of these rows of spots in an order in which few spots are begun and needed further."""
+    times = [times_of(row) for row in rows]
     uses = {}
-    for row in rows:
-        for spot in row:
-            uses[spot] = uses.get(spot, 0) + 1
+    for row in times:
+        for spot, many in row:
+            uses[spot] = uses.get(spot, 0) + many
     told = []
     begun = {}
     left = list(range(len(rows)))
     while len(left) > 0:
-        _, number = min([(growth(rows[one], uses, begun), one) for one in left])
+        grown = [growth(times[one], uses, begun) for one in left]
+        number = left.pop(grown.index(min(grown)))
         told.append(number)
-        left.remove(number)
-        for spot in rows[number]:
+        for spot, many in times[number]:
             begun[spot] = True
-            uses[spot] -= 1
+            uses[spot] -= many
     return told
+
+
+def order_of(frame):
+    """The order in which the knots of a frame are gone through, told but once."""
+    if frame.order is None:
+        frame.order = short_order(frame.knots)
+    return frame.order
 
 
 class Sweep:
@@ -44,13 +60,15 @@ class Sweep:
 
     A row tells for each clump that is still needed the part in which it is by now: a number from 0
     on for a part that must still come to a door, one below 0 for any other. A setting is told by
-    its code: its knots as bits, that of the first knot being the greatest.
+    its code: its knots as bits, that of the first knot being the greatest. STOPS tells whether it
+    may end as soon as any barred setting is noted.
     """
 
-    def __init__(self, frame, needs_doors, keeps_doors):
+    def __init__(self, frame, needs_doors, keeps_doors, stops):
         self.knots = frame.knots
-        self.order = short_order(frame.knots)
+        self.order = order_of(frame)
         self.keeps_doors = keeps_doors
+        self.stops = stops
         self.bad = None
         self.last_uses = {}
         for at, knot in enumerate(self.order):
@@ -106,6 +124,8 @@ class Sweep:
             needed = len([head for head in self.places if self.last_uses[head] > at])
             bit = 1 << (len(self.knots) - 1 - knot)
             rows = self.further(rows, ((low, left, 0), (low, right, bit)), needed)
+            if self.stops and self.bad is not None:
+                return {}
         return rows
 
     def further(self, rows, choices, needed):
@@ -159,11 +179,33 @@ def united(row, place, other, needed):
     return None if parts is None else trimmed(parts, needed)
 
 
-def least_barred(piece):
-    """The least barred setting, or None."""
-    sweep = Sweep(frame_of(piece), True, False)
+def least_barred_of(frame):
+    """The least barred setting of a frame, or None."""
+    sweep = Sweep(frame, True, False, False)
     sweep.run()
     return sweep.setting_of(sweep.bad)
+
+
+def least_barred(piece):
+    """The least barred setting, or None."""
+    return least_barred_of(frame_of(piece))
+
+
+def parting_in(row, sweep, frame):
+    """How a row that keeps the doors parts them."""
+    return numbered([row[sweep.places[head]] for head in frame.ends])
+
+
+def partings_left(frame, needs_doors):
+    """All partings that the settings of a frame leave, ascending; None if a setting is barred.
+
+    NEEDS_DOORS tells whether a part without a door bars a setting, as a ring does.
+    """
+    sweep = Sweep(frame, needs_doors, True, True)
+    rows = sweep.run()
+    if sweep.bad is not None:
+        return None
+    return tuple(sorted({parting_in(row, sweep, frame): True for row in rows}))
 
 
 class Leaving:
@@ -172,19 +214,24 @@ class Leaving:
 
     def __init__(self, piece):
         frame = frame_of(piece)
-        sweep = Sweep(frame, True, True)
+        sweep = Sweep(frame, True, True, False)
         rows = sweep.run()
         self.bad = sweep.setting_of(sweep.bad)
         self.least = {}
         self.counts = {}
         for row, (least, count) in rows.items():
-            parting = numbered([row[sweep.places[head]] for head in frame.ends])
+            parting = parting_in(row, sweep, frame)
             self.least[parting] = sweep.setting_of(least)
             self.counts[parting] = count
 
 
+def least_ringing(frame):
+    """The least setting of a frame that leaves a ring, or None."""
+    sweep = Sweep(frame, False, False, False)
+    sweep.run()
+    return sweep.setting_of(sweep.bad)
+
+
 def rings_with(frame, blocks):
     """Whether some setting leaves a ring if the doors of each of these blocks are joined."""
-    sweep = Sweep(frame.with_doors_joined(blocks), False, False)
-    sweep.run()
-    return sweep.bad is not None
+    return least_ringing(frame.with_doors_joined(blocks)) is not None

@@ -3,10 +3,18 @@
 from fittingdoors.errors import BadNumber
 from fittingdoors.kinds import is_integer_within
 from fittingdoors.lots import need_lot
-from fittingdoors.meeting import meets
-from fittingdoors.partings import partings_of_doors
+from fittingdoors.meeting import has_no_ring, meets
+from fittingdoors.partings import block_count, partings_into, partings_of_doors
 
 MOST_CLOSED_DOORS = 4
+
+
+def has_no_rings(parting, lot):
+    """Whether a parting has no ring with any one of a lot."""
+    for other in lot:
+        if not has_no_ring(parting, other):
+            return False
+    return True
 
 
 def meets_all(parting, lot):
@@ -19,7 +27,13 @@ def meets_all(parting, lot):
 
 def turned_lot(lot, number):
     """The partings that meet each of what is known to be a lot in a tree."""
-    return tuple([parting for parting in partings_of_doors(number) if meets_all(parting, lot)])
+    if len(lot) == 0:
+        return partings_of_doors(number)
+    # What meets a parting in a tree has a number of blocks that is told by those of the parting.
+    sizes = [block_count(parting) for parting in lot]
+    if min(sizes) != max(sizes):
+        return ()
+    return tuple([parting for parting in partings_into(number, number + 1 - sizes[0]) if has_no_rings(parting, lot)])
 
 
 def turned(lot, number):

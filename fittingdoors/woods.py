@@ -4,11 +4,11 @@ from fittingdoors.errors import BadNumber, NotSound
 from fittingdoors.frames import frame_of
 from fittingdoors.lots import need_lot
 from fittingdoors.lotting import need_few_doors, need_few_settings
-from fittingdoors.meeting import has_no_ring
 from fittingdoors.partings import numbered, partings_of_doors
 from fittingdoors.pieces import need_piece
 from fittingdoors.settings import need_setting
-from fittingdoors.sweeps import Sweep
+from fittingdoors.sweeps import least_ringing, partings_left
+from fittingdoors.turning import has_no_rings
 
 
 def wood_left_by(piece, setting):
@@ -23,34 +23,22 @@ def wood_left_by(piece, setting):
 def ringing_setting(piece):
     """The least setting that leaves a ring, or None."""
     need_few_settings(piece)
-    sweep = Sweep(frame_of(piece), False, False)
-    sweep.run()
-    return sweep.setting_of(sweep.bad)
+    return least_ringing(frame_of(piece))
 
 
 def wood_lot(piece):
     """The wood lot of a piece with 1 to 6 doors."""
     need_few_doors(piece)
     frame = frame_of(piece)
-    sweep = Sweep(frame, False, True)
-    rows = sweep.run()
-    if sweep.bad is not None:
-        raise NotSound(sweep.setting_of(sweep.bad))
-    told = {numbered([row[sweep.places[head]] for head in frame.ends]): True for row in rows}
-    return tuple(sorted(told))
-
-
-def meets_all_in_wood(parting, lot):
-    """Whether a parting meets each one of a lot in a wood."""
-    for other in lot:
-        if not has_no_ring(parting, other):
-            return False
-    return True
+    told = partings_left(frame, False)
+    if told is None:
+        raise NotSound(least_ringing(frame))
+    return told
 
 
 def turned_in_wood(lot, number):
     """All partings that meet each of what is known to be a lot in a wood."""
-    return tuple([parting for parting in partings_of_doors(number) if meets_all_in_wood(parting, lot)])
+    return tuple([parting for parting in partings_of_doors(number) if has_no_rings(parting, lot)])
 
 
 def wood_turned(lot, number):
@@ -70,6 +58,6 @@ def wood_parted(piece, other):
     if piece[0] != other[0]:
         raise BadNumber(other[0])
     for parting in partings_of_doors(piece[0]):
-        if meets_all_in_wood(parting, lot) != meets_all_in_wood(parting, other_lot):
+        if has_no_rings(parting, lot) != has_no_rings(parting, other_lot):
             return parting
     return None
