@@ -156,12 +156,13 @@ class Bench:
     def own_lot(self, number):
         """The lot of a piece behind its own ties, and the tags of its other doors.
 
-        None in the place of the lot if the piece isn't sound or the ties bar something.
+        None in the place of the lot if the piece isn't sound, or if its ties bar something or leave
+        no door.
         """
         piece = self.pieces[number]
         ties = [(one[1], two[1]) for one, two in self.ties_up_to(number) if one[0] == number]
         left = doors_left(piece[0], ties)
-        lot = partings_left(frame_of(piece), True)
+        lot = partings_left(frame_of(piece), True) if len(left) > 0 else None
         if lot is not None:
             lot = glue_all(lot, ties, left)
         return lot, [(number, door) for door in left]
@@ -185,10 +186,9 @@ class Bench:
             return None
         told = (None, [])
         for number in sorted(self.pieces):
-            doors, _, lines = self.pieces[number]
             # A piece without anything changes nothing.
-            if len(lines) > 0:
-                told = (None, []) if doors == 0 else self.with_piece(told, number)
+            if len(self.pieces[number][2]) > 0:
+                told = self.with_piece(told, number)
                 lot, tags = told
                 # What has no door left hangs together with no open door.
                 if lot is None or len(tags) == 0:

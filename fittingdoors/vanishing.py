@@ -51,16 +51,16 @@ class Vanishing:
         self.loops = 0
         self.times = 0
 
-    def vanish(self, both, either):
-        """Let a pair vanish; all pairs of knots that are low on a line that comes are told."""
+    def vanish(self, knot, other):
+        """Let a pair vanish; the pairs of knots, or of doors, that are low on a line that comes are told."""
         self.times += 1
-        del self.across[(both, 2)]
-        del self.across[(either, 2)]
+        del self.across[(knot, 2)]
+        del self.across[(other, 2)]
         told = []
         for place in (0, 1):
-            one = self.across.pop((both, place))
-            two = self.across.pop((either, place))
-            if one == (either, place):
+            one = self.across.pop((knot, place))
+            two = self.across.pop((other, place))
+            if one == (other, place):
                 self.loops += 1
             else:
                 self.across[one] = two
@@ -71,17 +71,13 @@ class Vanishing:
 
     def vanish_all(self, pairs):
         """Let pairs vanish until none is left; these can vanish to begin with."""
+        sorts = self.piece[1]
         waiting = list(pairs.items())
         while len(waiting) > 0:
-            both, either = waiting.pop()
-            for one, two in self.vanish(both, either):
-                self.note(waiting, one, two)
-
-    def note(self, waiting, one, two):
-        """Put two knots with their low ends on one line to the pairs that are waiting, if they are a pair."""
-        sorts = self.piece[1]
-        if one >= 0 and two >= 0 and sorts[one] != sorts[two]:
-            waiting.append((one, two) if sorts[one] == "both" else (two, one))
+            knot, other = waiting.pop()
+            for one, two in self.vanish(knot, other):
+                if one >= 0 and two >= 0 and sorts[one] != sorts[two]:
+                    waiting.append((one, two))
 
     def remainder(self):
         """What is left, plain; TooGreat if it is no piece any more."""

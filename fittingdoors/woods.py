@@ -5,7 +5,6 @@ from fittingdoors.frames import frame_of
 from fittingdoors.lots import need_lot
 from fittingdoors.lotting import need_few_doors, need_few_settings
 from fittingdoors.partings import numbered, partings_of_doors
-from fittingdoors.pieces import need_piece
 from fittingdoors.settings import need_setting
 from fittingdoors.sweeps import least_ringing, partings_left
 from fittingdoors.turning import has_no_rings
@@ -13,7 +12,6 @@ from fittingdoors.turning import has_no_rings
 
 def wood_left_by(piece, setting):
     """How a setting parts the doors, () without doors, None if it leaves a ring."""
-    need_piece(piece)
     need_setting(piece, setting)
     frame = frame_of(piece)
     clumps = frame.joined_by(setting)

@@ -64,7 +64,8 @@ def small_piece(chance):
     doors = chance.randrange(1, 4)
     if chance.random() < 0.8:
         return brute.sound_piece(chance, doors, 3)
-    return brute.random_piece(chance, doors, ["both"] * (doors % 2)) if doors % 2 else LINE
+    # As a rule not sound: with rings, or with parts without doors.
+    return brute.random_piece(chance, doors, [chance.choice(("both", "either")) for _ in range(2 - doors % 2)])
 
 
 class Model:
@@ -282,6 +283,27 @@ class BenchTests(TestCase):
         self.check(False, bench.finishes)
         self.check(None, bench.lot)
         self.check((), bench.ties_left)
+
+    def test_parts_without_doors(self):
+        # No ring is left, but a part without a door.
+        piece = (2, ("either", "either"), (((-1, 0), (-1, 1)), ((0, 0), (0, 1)), ((1, 0), (1, 1)), ((0, 2), (1, 2))))
+        bench = Bench()
+        bench.put(LINE)
+        self.check(((0, 0),), bench.lot)
+        bench.put(piece)
+        self.check(None, bench.lot)
+        self.check(False, bench.finishes)
+        bench.tie((1, 0), (2, 0))
+        self.check(None, bench.lot)
+
+    def test_six_doors(self):
+        bench = Bench()
+        bench.put(tree_piece((0, 0, 0, 1, 1, 2)))
+        self.check(((0, 0, 0, 1, 1, 2),), bench.lot)
+        bench.put(LINE)
+        self.refused(TooGreat, {"most": 6}, bench.lot)
+        bench.tie((1, 0), (2, 0))
+        self.check(((0, 0, 1, 1, 2, 0),), bench.lot)
 
     def test_many_either_knots(self):
         # More settings than could be tried: the lot is told piece by piece.
