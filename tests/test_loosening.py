@@ -177,7 +177,8 @@ class LooserTests(TestCase):
             for value in [*wrong_kinds(), (), 1, ("both", 0)]:
                 self.refused(BadForm, {"path": ()}, call, value, None)
                 self.refused(BadForm, {"path": ()}, call, good, value)
-            self.refused(BadForm, {"path": (2,)}, call, ("both", 0, 0), ("both", 1, 1))
+            for value in (None, good, 0):
+                self.refused(BadForm, {"path": (2,)}, call, ("both", 0, 0), value)
             self.refused(BadNumber, {"value": 1}, call, good, 0)
             self.refused(BadNumber, {"value": 2}, call, 0, good)
             self.refused(BadNumber, {"value": 40}, call, deep_form(9), deep_form(40))

@@ -396,7 +396,8 @@ class SheetTests(TestCase):
                    ("piece", "b", piece_text(BOTH)), ("form", "f", "(0 * 1)"), ("form", "g", "((0 * 1) * 2)"),
                    ("lot", "one", "1"), ("lot", "all", "1\n0")]
         for verdict in ("meets p q", "turned l k", "turned none nought", "fits a b", "alike a b", "for a b", "has a k",
-                        "looser f g", "between l f k", "between k f l", "between l g l"):
+                        "looser f g", "between l f k", "between k f l", "between l g l", "between none f nought",
+                        "between nought f none", "between nought f nought"):
             self.assertIs(self.one_verdict(entries, verdict), False)
         self.assertIs(self.one_verdict(entries, "turned one all"), True)
 

@@ -155,6 +155,18 @@ class SmallTermTests(TestCase):
             self.assertEqual(term_piece(rows, term), right_piece(rows, term))
         self.assertEqual(term_piece(rows, (2, (1,), (3,)))[1], ("either", "both", "both", "both", "either"))
 
+    def test_two_hundred_knots(self):
+        doors, sorts, lines = chain(25)
+        more = [tuple((-1, 2 + place) if knot == -1 else (knot + 50, place) for knot, place in line) for line in lines]
+        # Doors 0 and 1 are those of one chain, 2 and 3 those of another one.
+        rows = ((2, (), (2, (), (((-1, 0), (-1, 1)),))), (2, (2,), (4, sorts * 2, lines + tuple(more))), (2, (), chain(1)))
+        self.assertEqual(doors, 2)
+        term = (1, (1, (0,)))
+        told = term_piece(rows, term)
+        self.assertEqual(len(told[1]), 200)
+        self.assertEqual(told, right_piece(rows, term))
+        self.refused(TooGreat, {"most": 200}, term_piece, rows, (1, (1, (2,))))
+
     def test_partings_into(self):
         for doors in range(1, 8):
             for blocks in range(1, doors + 1):
