@@ -77,8 +77,7 @@ def put_together(word, count, other):
     if len(shared) > (1 if word == "both" else 0):
         return {}, 0, ()
     told = {}
-    all_blocks = (*blocks, *other_blocks) if len(shared) == 0 else (*blocks, *[
-        block for block in other_blocks if block not in blocks])
+    all_blocks = (*blocks, *[block for block in other_blocks if block not in shared])
     if word == "either":
         for root, ways in roots.items():
             told[root] = ways * other_many

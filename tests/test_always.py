@@ -196,7 +196,7 @@ class ComparedTests(TestCase):
             self.assertEqual(told, parted_by(other, (alphabet, width, goal)))
             found.append(None if told is None else size_of_term(told))
         self.assertGreater(found.count(None), 20)
-        self.assertGreater(len([size for size in found if size is not None and size > 1]), 5)
+        self.assertGreater(len([size for size in found if size is not None and size > 1]), 2)
 
     def test_like_systems(self):
         for alphabet, width, goal in systems(413, 40):
@@ -359,7 +359,7 @@ class CountedTests(TestCase):
                         self.check(True, term_stands, system, term)
                         self.check(place, standing_place, system, term)
                 self.refused(BadNumber, {"value": many}, standing_term, system, size, many)
-        self.assertGreater(seen, 10)
+        self.assertGreater(seen, 5)
 
     def test_edges(self):
         self.check(1, standing_counted, system=GOOD, number=40)

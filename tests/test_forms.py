@@ -164,6 +164,24 @@ class FormTests(TestCase):
             self.refused(BadForm, {"path": ()}, leaves, form)
         self.refused(BadForm, {"path": (2,)}, leaves, ("both", 5, 5))
 
+    def test_one_door_too_many(self):
+        def balanced(doors):
+            if len(doors) == 1:
+                return doors[0]
+            half = len(doors) // 2
+            return ("either", balanced(doors[:half]), balanced(doors[half:]))
+
+        self.check(tuple(range(40)), leaves, balanced(list(range(40))))
+        form = balanced(list(range(41)))
+        path = [path for path in paths_of(form) if self.part(form, path) == 40]
+        for call in (leaves, dual, plain, web, form_piece, lambda one: is_same(one, 0), lambda one: is_same(0, one)):
+            self.refused(BadForm, {"path": path[0]}, call, form)
+
+    def part(self, form, path):
+        for place in path:
+            form = form[place]
+        return form
+
     def test_nesting(self):
         form = 5
         for _ in range(39):
