@@ -12,7 +12,8 @@ def first_wrong_block(blocks):
     """The place of the first thing that is no number that a block can have there, or None."""
     many = 0
     for place, block in enumerate(blocks):
-        if not is_integer_within(block, 0, many):
+        # What kinds tells elsewhere is written out: no value is looked at more often.
+        if not isinstance(block, int) or isinstance(block, bool) or block < 0 or block > many:
             return place
         if block == many:
             many += 1
