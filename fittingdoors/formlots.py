@@ -23,12 +23,11 @@ def form_parting(form, place):
         raise BadNumber(place)
     told = []
     for door in range(len(tally.spots)):
+        ways = tally.ways(door)
         block = 0
-        many = tally.many_with(door, block)
-        while place >= many:
-            place -= many
+        while place >= ways[block]:
+            place -= ways[block]
             block += 1
-            many = tally.many_with(door, block)
         tally.tell(door, block)
         told.append(block)
     return tuple(told)
@@ -41,9 +40,10 @@ def form_place(form, parting):
     need_parting_of(parting, len(tally.spots))
     ahead = 0
     for door, block in enumerate(parting):
-        ahead += sum([tally.many_with(door, lesser) for lesser in range(block)])
-        if tally.many_with(door, block) == 0:
+        ways = tally.ways(door)
+        if ways[block] == 0:
             return None
+        ahead += sum(ways[:block])
         tally.tell(door, block)
     return ahead
 

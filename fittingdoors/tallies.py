@@ -21,6 +21,7 @@ class Tally:
         self.above = []
         self.counts = []
         self.spots = {}
+        self.block_count = 0
         self.lay(form, None)
 
     def lay(self, part, above):
@@ -38,35 +39,69 @@ class Tally:
             self.counts[place] = put_together(part[0], self.counts[one], self.counts[two])
         return place
 
-    def counts_with(self, door, block):
-        """What the parts above a door have, each behind its place, if this door is told as well.
+    def beside(self, place):
+        """What the part beside this one has."""
+        one, two = self.sides[self.above[place]]
+        return self.counts[two if place == one else one]
+
+    def climb(self, place, count):
+        """What the parts from this one up have, each behind its place, if this one has COUNT.
 
         It ends ahead of the root where no parting is left.
         """
-        place = self.spots[door]
-        count = ({block: 1}, 1, (block,))
         told = [(place, count)]
         while self.above[place] is not None and count[1] > 0:
-            place, below = self.above[place], place
-            one, two = self.sides[place]
-            other = self.counts[two if below == one else one]
-            count = put_together(self.words[place], count, other)
+            above = self.above[place]
+            count = put_together(self.words[above], count, self.beside(place))
+            place = above
             told.append((place, count))
         return told
 
-    def many_with(self, door, block):
-        """How many partings there are if this door is told as well."""
-        _, (_, many, _) = self.counts_with(door, block)[-1]
-        return many
+    def ways(self, door):
+        """For each block in which a door may be how many partings there are; the last block is a new one."""
+        new = self.block_count
+        path = self.climb(self.spots[door], counts_of_door(new))
+        told = [0] * new
+        seen = set()
+        for place, count in path[:-1]:
+            above = self.above[place]
+            roots, _, blocks = self.beside(place)
+            for block in blocks:
+                # Up to where a block is met first, a door in it is like one in a new block.
+                if block not in seen:
+                    seen.add(block)
+                    if self.words[above] == "both" and roots.get(block, 0) > 0:
+                        both = put_together("both", renamed(count, new, block), self.beside(place))
+                        told[block] = many_at_end(self.climb(above, both))
+        return [*told, many_at_end(path)]
 
     def tell(self, door, block):
         """Tell a door; some parting must be left."""
-        for place, count in self.counts_with(door, block):
+        for place, count in self.climb(self.spots[door], counts_of_door(block)):
             self.counts[place] = count
+        self.block_count = max(self.block_count, block + 1)
 
     def in_all(self):
         """How many partings there are."""
         return self.counts[0][1]
+
+
+def many_at_end(path):
+    """How many partings the last part has that was climbed to."""
+    _, (_, many, _) = path[-1]
+    return many
+
+
+def counts_of_door(block):
+    """What a told door has."""
+    return {block: 1}, 1, (block,)
+
+
+def renamed(count, old, block):
+    """What a part has when one of its blocks is another one."""
+    roots, many, blocks = count
+    return ({block if root == old else root: ways for root, ways in roots.items()}, many,
+            tuple([block if one == old else one for one in blocks]))
 
 
 def put_together(word, count, other):
