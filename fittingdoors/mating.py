@@ -5,7 +5,7 @@ MATES, wherever it stands, has a row for each door: for each door 1 if the two a
 
 from itertools import permutations
 
-from fittingdoors.forms import bracketed
+from fittingdoors.forms import bracketed, doors_of, limbs_of
 
 
 def mates_in(lot, number):
@@ -80,16 +80,29 @@ def candidate(mates):
     return form_by_mates(list(range(len(mates))), mates)
 
 
-def mates_of_web(web, number):
-    """The mates that a web of so many doors tells."""
-    told = [[0] * number for _ in range(number)]
-    place = 0
-    for two in range(number):
-        for one in range(two):
-            told[one][two] = web[place]
-            told[two][one] = web[place]
-            place += 1
-    return told
+def widened(form, door, bits):
+    """The plain form of a plain form and of one more door, that is greater than its doors.
+
+    BITS tells for each door of the form 1 if it is a mate of the one more. It is None if there is a way.
+    """
+    many = sum([bits[one] for one in doors_of(form)])
+    if many == 0 or many == len(doors_of(form)):
+        return "both" if many > 0 else "either", form, door
+    word = form[0]
+    # Limbs to all doors of which the new one is as they are to one another stay as they are.
+    bit = 1 if word == "both" else 0
+    limbs = limbs_of(form, word)
+    apart = [pair for pair in limbs if (1 - bit) in [bits[one] for one in doors_of(pair[1])]]
+    least, inner = apart[0]
+    if len(apart) == 1:
+        inner = widened(inner, door, bits)
+        if inner is None:
+            return None
+    elif bit in [bits[one] for _, limb in apart for one in doors_of(limb)]:
+        return None
+    else:
+        inner = ("either" if word == "both" else "both", bracketed(word, apart), door)
+    return bracketed(word, [*[pair for pair in limbs if pair not in apart], (least, inner)])
 
 
 def forms_with(number, choices):
@@ -97,14 +110,13 @@ def forms_with(number, choices):
 
     CHOICES has for each pair of doors, as a web has them, what may be told of it.
     """
-    rows = [((), 0)]
+    # What is told door by door comes by the webs ascending.
+    rows = [0]
     for door in range(1, number):
         begun = door * (door - 1) // 2
         bits = [()]
         for choice in choices[begun:begun + door]:
             bits = [(*row, bit) for row in bits for bit in choice]
-        # A way stays one when doors are added, so each web goes on from one without a way.
-        longer = [(*web, *more) for web, _ in rows for more in bits]
-        told = [(web, candidate(mates_of_web(web, door + 1))) for web in longer]
-        rows = [(web, form) for web, form in told if form is not None]
-    return tuple([form for _, form in rows])
+        told = [widened(form, door, row) for form in rows for row in bits]
+        rows = [form for form in told if form is not None]
+    return tuple(rows)
