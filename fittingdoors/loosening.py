@@ -84,6 +84,15 @@ def both_paths(form):
     return told
 
 
+def forks_of(part):
+    """All ways to part a limb that begins with EITHER into all but one of its limbs and this one."""
+    branches = limbs_below(part, "either")
+    if len(branches) == 1:
+        return []
+    return [("either", put_in_row("either", branches[:at] + branches[at + 1:]), branch)
+            for at, branch in enumerate(branches)]
+
+
 def passes_of(part):
     """All ways to bracket a part that begins with BOTH for a pass of one limb to all but one of an EITHER.
 
@@ -92,17 +101,15 @@ def passes_of(part):
     """
     told = []
     limbs = limbs_below(part, "both")
-    for place, fork in enumerate(limbs):
-        branches = limbs_below(fork, "either")
-        for at, branch in enumerate(branches if len(branches) > 1 else []):
-            narrow = ("either", put_in_row("either", branches[:at] + branches[at + 1:]), branch)
+    for place, wide in enumerate(limbs):
+        for fork in forks_of(wide):
             for other, limb in enumerate(limbs):
                 if other != place:
                     rest = [one for here, one in enumerate(limbs) if here not in (place, other)]
-                    path = (2,) if len(rest) > 0 else ()
-                    pairs = [(one, two) for one in doors_of(limb) for two in doors_of(branch)]
-                    told.append((put_in_row("both", [put_in_row("both", rest), ("both", limb, narrow)])
-                                 if len(rest) > 0 else ("both", limb, narrow), path, pairs))
+                    ready = ("both", limb, fork)
+                    whole = ("both", put_in_row("both", rest), ready) if len(rest) > 0 else ready
+                    pairs = [(one, two) for one in doors_of(limb) for two in doors_of(fork[2])]
+                    told.append((whole, (2,) if len(rest) > 0 else (), pairs))
     return told
 
 
